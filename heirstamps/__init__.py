@@ -1,0 +1,1 @@
+"""Copies that fork and meet, and what their stamps can tell."""
