@@ -6,8 +6,6 @@ one for each path of k halves. It is written from DOC.md alone, so that it can s
 
 from itertools import product
 
-NAMES = ("fork", "deed", "hear", "join", "lose")
-
 
 # The model by cells.
 
