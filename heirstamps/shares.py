@@ -96,7 +96,7 @@ def united(share, other_share):
     path = first_common_path(share, other_share)
     if path is not None:
         raise Overlap(path)
-    return bounded(_united_tree(share, other_share))
+    return bounded(united_tree(share, other_share))
 
 
 def first_common_path(share, other_share):
@@ -114,14 +114,14 @@ def first_common_path(share, other_share):
     return None
 
 
-def _united_tree(share, other_share):
+def united_tree(share, other_share):
     """What is united of shares that do not overlap, whatever its size."""
     if share == 0:
         return other_share
     if other_share == 0:
         return share
-    left = _united_tree(share[0], other_share[0])
-    right = _united_tree(share[1], other_share[1])
+    left = united_tree(share[0], other_share[0])
+    right = united_tree(share[1], other_share[1])
     return share_whole(left, right)
 
 
@@ -146,18 +146,17 @@ def _less_tree(share, other_share):
 def owned_paths(share):
     """The ascending list of the shortest paths that the share has."""
     check_share(share)
-    found = []
-    _gather_paths(share, (), found)
-    return found
+    return paths_had(share)
 
 
-def _gather_paths(share, path, found):
-    """Append to found the shortest paths that the share has, each behind this path."""
+def paths_had(share):
+    """The ascending list of the shortest paths that a share has, whatever its size."""
+    if share == 0:
+        return []
     if share == 1:
-        found.append(path)
-    if type(share) is tuple:
-        _gather_paths(share[0], path + (0,), found)
-        _gather_paths(share[1], path + (1,), found)
+        return [()]
+    left = [(0,) + path for path in paths_had(share[0])]
+    return left + [(1,) + path for path in paths_had(share[1])]
 
 
 def share_text(share):

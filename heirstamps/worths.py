@@ -50,6 +50,15 @@ def greater_of(counts, other_counts):
     return whole(greater_of(left, other_left), greater_of(right, other_right))
 
 
+def lesser_of(counts, other_counts):
+    """The counts whose worth is at each part the lesser one."""
+    if type(counts) is int and type(other_counts) is int:
+        return min(counts, other_counts)
+    left, right = halves(counts)
+    other_left, other_right = halves(other_counts)
+    return whole(lesser_of(left, other_left), lesser_of(right, other_right))
+
+
 def nowhere_greater(counts, other_counts):
     """Whether no part has a greater worth in the first counts."""
     if type(counts) is int and type(other_counts) is int:

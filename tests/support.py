@@ -4,6 +4,7 @@ The model tells a share as a list of 2 ** k zeros and ones, and counts as a list
 one for each path of k halves. It is written from DOC.md alone, so that it can stand against the program.
 """
 
+from functools import lru_cache
 from itertools import product
 
 
@@ -233,11 +234,12 @@ def some_history(seed, length, names, k):
     return tuple(steps), model
 
 
+@lru_cache(maxsize=None)
 def some_histories():
     """Pairs of a history and its model: with few forks and many, with lose and without."""
     plain = ("fork", "fork", "deed", "deed", "deed", "hear", "hear", "join")
     losing = ("fork", "fork", "fork", "deed", "deed", "deed", "hear", "hear", "join", "lose")
-    return [some_history(seed, 10 + seed % 50, losing if seed % 2 else plain, 7) for seed in range(120)]
+    return tuple(some_history(seed, 10 + seed % 50, losing if seed % 2 else plain, 7) for seed in range(120))
 
 
 # Wrong values.

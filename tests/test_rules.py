@@ -1,4 +1,4 @@
-"""[2], [3], [4]: what holds for all functions of part 1."""
+"""[2], [3], [4]: what holds for all functions."""
 
 import copy
 import inspect
@@ -6,66 +6,13 @@ import os
 import subprocess
 import sys
 import unittest
+from itertools import combinations
 
-from heirstamps import counts, errors, histories, shares
-from tests.support import chain_counts, chain_share, deep, deep_pair, full_counts, full_share, strange_values
-
-TALE = (("fork", 0), ("deed", 0), ("fork", 1), ("deed", 2), ("hear", 1, 0), ("deed", 1), ("join", 0, 2))
-# Each function with its parameters, and arguments with which it raises nothing.
-CALLS = (
-    (shares, "is_share", {"value": (0, 1)}),
-    (shares, "share_at", {"share": ((0, 1), 1), "path": (0,)}),
-    (shares, "halved", {"share": (0, (1, 0))}),
-    (shares, "united", {"share": (1, 0), "other_share": (0, (0, 1))}),
-    (shares, "less", {"share": 1, "other_share": ((0, 1), 0)}),
-    (shares, "owned_paths", {"share": ((0, 1), 1)}),
-    (shares, "share_text", {"share": ((0, 1), 1)}),
-    (shares, "share_told", {"text": "((0,1),1)"}),
-    (counts, "is_counts", {"value": (0, 1, 0)}),
-    (counts, "worth_at", {"counts": (1, 0, (0, 2, 0)), "path": (1,)}),
-    (counts, "joined", {"counts": (0, 1, 0), "other_counts": (0, 0, 2)}),
-    (counts, "is_within", {"counts": 1, "other_counts": (1, 0, 1)}),
-    (counts, "raised", {"share": (1, 0), "counts": (2, 1, 0)}),
-    (counts, "counts_text", {"counts": (1, 0, (0, 2, 0))}),
-    (counts, "counts_told", {"text": "(1,0,(0,2,0))"}),
-    (counts, "is_stamp", {"value": ((0, 1), (0, 0, 1))}),
-    (histories, "is_history", {"value": TALE}),
-    (histories, "marks", {"history": TALE}),
-    (histories, "stamp_of", {"history": TALE, "mark": 1}),
-    (histories, "heard", {"history": TALE, "mark": 1}),
-    (histories, "deeds", {"history": TALE}),
-    (histories, "known_at", {"history": TALE, "count": 3}),
+from heirstamps import chains, compared, counts, errors, futures, histories, meetings, shares
+from tests.calls import BOTH, CALLS, ERRORS, MORE_WRONG, ROWS, TALE, wrong_for
+from tests.support import (
+    chain_counts, chain_share, deep, deep_pair, full_counts, full_share, strange_values, tuples_in,
 )
-ERRORS = {
-    "share": ("InvalidShare", {}), "other_share": ("InvalidShare", {}), "counts": ("InvalidCounts", {}),
-    "other_counts": ("InvalidCounts", {}), "path": ("InvalidPath", {}), "history": ("InvalidHistory", {"index": 0}),
-    "mark": ("InvalidMark", {}), "count": ("InvalidCount", {}), "text": ("InvalidText", {"index": 0}),
-}
-MORE_WRONG = {
-    "share": [(), 2, chain_share(13), full_share(6, (1, (1, 0))), full_share(10)],
-    "counts": [(), (1, 0), chain_counts(13), full_counts(6, (0, (0, 1, 0), 0)), full_counts(9)],
-    "path": [0, 2, "01", (2,), (0, 1, 2), (0, -1), (0, True), ([],), (0,) * 13, (1,) * 40],
-    "history": [5, "f0", (("fork", 1),), (("deed", False),), (("lose", 0),), ((),), ("fork", 0)],
-    "mark": [2, 7, -1, (), (0,), 10 ** 89], "count": [0, -1, 4, (), (1,), 10 ** 89],
-    "text": [5, (), ("0",), "", ",", ")", "+1", "x" * 20000],
-}
-MORE_WRONG["other_share"] = MORE_WRONG["share"]
-MORE_WRONG["other_counts"] = MORE_WRONG["counts"]
-
-
-def wrong_for(parameter):
-    """Values with which the error of this parameter is raised."""
-    strange = strange_values()
-    if parameter == "path":
-        strange = [value for value in strange if not looks_like_path(value)]
-    if parameter == "text":
-        strange = [value for value in strange if not isinstance(value, str)]
-    return strange + MORE_WRONG[parameter]
-
-
-def looks_like_path(value):
-    """Whether a value is a short tuple of the integers 0 and 1."""
-    return isinstance(value, tuple) and len(value) < 13 and all(repr(part) in ("0", "1") for part in value)
 
 
 def answer_of(call, *parts, **named):
@@ -79,14 +26,14 @@ def answer_of(call, *parts, **named):
 class Interface(unittest.TestCase):
 
     def test_names_and_parameters(self):
-        for module, name, named in CALLS:
+        for module, name, named, _ in CALLS:
             with self.subTest(name):
                 call = getattr(module, name)
                 self.assertEqual(list(inspect.signature(call).parameters), list(named))
                 self.assertEqual(call.__module__, module.__name__)
 
     def test_by_position_and_by_name(self):
-        for module, name, named in CALLS:
+        for module, name, named, _ in CALLS:
             with self.subTest(name):
                 call = getattr(module, name)
                 told = call(*named.values())
@@ -99,7 +46,7 @@ class Interface(unittest.TestCase):
 class Errors(unittest.TestCase):
 
     def test_each_parameter_alone(self):
-        for module, name, named in CALLS:
+        for module, name, named, _ in CALLS:
             for parameter in named:
                 if parameter == "value":
                     continue
@@ -109,14 +56,22 @@ class Errors(unittest.TestCase):
                         self.assertEqual(told, ERRORS[parameter])
 
     def test_the_first_of_two(self):
-        for module, name, named in CALLS:
-            if len(named) == 1:
-                continue
-            first, second = named
-            for at, value in enumerate(wrong_for(first)):
-                for other in wrong_for(second)[at % 7::7]:
-                    with self.subTest(name, value=value, other=other):
-                        told = answer_of(getattr(module, name), **{first: value, second: other})
+        for module, name, named, _ in CALLS:
+            for first, second in combinations(named, 2):
+                wrong = wrong_for(second) if second != "value" else strange_values()
+                for at, value in enumerate(wrong_for(first)):
+                    for other in wrong[at % 7::7]:
+                        with self.subTest(name, value=value, other=other):
+                            told = answer_of(getattr(module, name), **{**named, first: value, second: other})
+                            self.assertEqual(told, ERRORS[first])
+
+    def test_the_first_of_three(self):
+        for module, name, named, _ in CALLS:
+            for value in (None, True, [], -1, "x", deep(40)):
+                first = list(named)[0]
+                told = answer_of(getattr(module, name), **{parameter: value for parameter in named})
+                with self.subTest(name, value=value):
+                    if first != "value" and (first != "text" or value != "x"):
                         self.assertEqual(told, ERRORS[first])
 
     def test_ahead_of_the_errors_of_the_point(self):
@@ -128,26 +83,53 @@ class Errors(unittest.TestCase):
                 (counts.raised, (chain_share(7), full_counts(7)), "InvalidCounts"),
                 (shares.less, (full_share(6), full_share(7)), "InvalidShare"),
                 (histories.heard, ((None,), None), "InvalidHistory"),
-                (histories.known_at, ((("deed", 0), None), 0), "InvalidHistory")):
+                (histories.known_at, ((("deed", 0), None), 0), "InvalidHistory"),
+                (compared.above, (full_counts(6), full_counts(7)), "InvalidCounts"),
+                (compared.spread, ((0, 1, 0), 9), "InvalidCount"), (compared.spread, ((0, 1, 1), 9), "InvalidCounts"),
+                (compared.gathered, ((0, 1) * 128 + (0,),), "InvalidWorths"),
+                (compared.put_together, (((1, 0), (1, 0), None),), "InvalidStamp"),
+                (compared.peak, ((1, 1), (0, 0)), "InvalidRow"), (compared.peak, ((1, 1, 2), (0, 0)), "InvalidShare"),
+                (compared.least_peak, ((1, 1, 2),), "InvalidShare"),
+                (futures.parting, ((), (("fork", 0), None)), "InvalidHistory"),
+                (futures.is_parting, ((None,), (), ((), 0, 1)), "InvalidHistory"),
+                (meetings.shortest_plan, ((("fork", 0),) * 8,), "InvalidHistory"),
+                (chains.some_entries, ((("deed", 0),) * 61,), "InvalidHistory"),
+                (chains.deeds_by, (TALE, ((0,),), None), "InvalidRows"),
+                (chains.row_counts, (TALE, ((0,),), None), "InvalidRows")):
             with self.subTest(call.__name__, parts=parts):
                 self.assertEqual(answer_of(call, *parts)[0], error)
 
     def test_truths_are_no_integers(self):
         for module, name, parts in ((shares, "share_at", (True, ())), (shares, "share_at", (1, (True,))),
                                     (counts, "worth_at", (True, ())), (counts, "worth_at", (1, (False,))),
-                                    (histories, "heard", ((), False)), (histories, "known_at", (TALE, True))):
+                                    (histories, "heard", ((), False)), (histories, "known_at", (TALE, True)),
+                                    (compared, "spread", (1, True)), (compared, "gathered", ((True, False),)),
+                                    (compared, "covers", ((True,), 0)), (compared, "peak", ((0, 1), (False, True))),
+                                    (compared, "least_form", ((True, 0, 0),)), (compared, "best_row", ((True,),)),
+                                    (futures, "least_covers", (BOTH, True)), (meetings, "gathering", (BOTH, False)),
+                                    (meetings, "plan_peak", (BOTH, (("join", False, True),))),
+                                    (chains, "knows", (TALE, True, 0)), (chains, "are_apart", (TALE, 0, True)),
+                                    (chains, "row_counts", (TALE, ((True,), (0, 2)), 0)),
+                                    (chains, "row_counts", (TALE, ROWS, True)),
+                                    (chains, "deeds_by", (TALE, ROWS, (True, False))),
+                                    (chains, "crown_history", (True,))):
             with self.subTest(name, parts=parts):
                 self.assertNotEqual(answer_of(getattr(module, name), *parts)[0], "told")
 
     def test_nothing_is_raised_for_a_value(self):
-        values = strange_values() + [values for rows in MORE_WRONG.values() for values in rows]
+        values = strange_values() + [value for rows in MORE_WRONG.values() for value in rows]
         values += [0, 1, 7, (0, 1), (0, 1, 0), ((0, 1), (0, 1, 0)), TALE, (), list(TALE), 10 ** 89, deep_pair(40, [])]
-        for module, name in ((shares, "is_share"), (counts, "is_counts"), (counts, "is_stamp"),
-                             (histories, "is_history")):
+        values += [named["value"] for _, _, named, _ in CALLS if "value" in named]
+        looked = 0
+        for module, name, named, _ in CALLS:
+            if "value" not in named:
+                continue
+            looked += 1
             for value in values:
                 with self.subTest(name, value=value):
-                    self.assertIn(getattr(module, name)(value), (True, False))
-                    self.assertIs(type(getattr(module, name)(value)), bool)
+                    told = getattr(module, name)(**{**named, "value": value})
+                    self.assertIs(type(told), bool)
+        self.assertEqual(looked, 11)
 
     def test_strange_values_are_nothing(self):
         for value in strange_values():
@@ -155,12 +137,18 @@ class Errors(unittest.TestCase):
                 self.assertIs(shares.is_share(value), False)
                 self.assertIs(counts.is_counts(value), False)
                 self.assertIs(histories.is_history(value), False)
+                self.assertIs(futures.is_parting(BOTH, BOTH[:2], value), False)
+                self.assertIs(meetings.is_hear_plan(BOTH, value), False)
+                self.assertIs(meetings.is_join_plan(BOTH, value), False)
+                self.assertIs(chains.is_row_sharing(TALE, value), False)
+                self.assertIs(chains.is_entries(TALE, value), False)
+                self.assertIs(chains.is_crown(TALE, value), False)
 
 
 class Arguments(unittest.TestCase):
 
     def test_they_stay_as_they_were(self):
-        for module, name, named in CALLS:
+        for module, name, named, _ in CALLS:
             for parameter in named:
                 right = [named[parameter]]
                 for value in right + (strange_values() if parameter == "value" else wrong_for(parameter)):
@@ -175,20 +163,27 @@ class Arguments(unittest.TestCase):
         self.assertEqual(counts.joined(tree, tree), tree)
         self.assertIs(counts.is_within(tree, tree), True)
         self.assertEqual(answer_of(shares.united, share, share), ("Overlap", {"path": (0,)}))
+        self.assertEqual(compared.above(tree, tree), 0)
+        self.assertEqual(compared.met(tree, tree), tree)
+        self.assertIs(futures.are_alike(TALE, TALE), True)
+        self.assertIsNone(futures.parting(TALE, TALE))
+        self.assertIs(futures.is_parting(TALE, TALE, ((), 0, 1)), False)
+        self.assertIs(chains.knows(TALE, 2, 2), False)
+        self.assertIs(chains.are_apart(TALE, 2, 2), False)
 
 
 class SameAnswers(unittest.TestCase):
 
     def test_again_and_with_others_between(self):
-        first = [answer_of(getattr(module, name), **named) for module, name, named in CALLS]
-        for module, name, named in CALLS:
+        first = [answer_of(getattr(module, name), **named) for module, name, named, _ in CALLS]
+        for module, name, named, _ in CALLS:
             for parameter in named:
                 answer_of(getattr(module, name), **{**named, parameter: None})
-        again = [answer_of(getattr(module, name), **copy.deepcopy(named)) for module, name, named in reversed(CALLS)]
+        again = [answer_of(getattr(module, name), **copy.deepcopy(named)) for module, name, named, _ in reversed(CALLS)]
         self.assertEqual(first, again[::-1])
 
     def test_lists_are_new_each_time(self):
-        for module, name, named in CALLS:
+        for module, name, named, _ in CALLS:
             call = getattr(module, name)
             told = call(**named)
             if isinstance(told, list):
@@ -200,21 +195,24 @@ class SameAnswers(unittest.TestCase):
                     self.assertEqual(call(**named), keep)
 
     def test_kinds_of_what_is_told(self):
-        kinds = {"is_share": bool, "share_at": tuple, "halved": tuple, "united": tuple, "less": tuple,
-                 "owned_paths": list, "share_text": str, "share_told": tuple, "is_counts": bool, "worth_at": tuple,
-                 "joined": tuple, "is_within": bool, "raised": tuple, "counts_text": str, "counts_told": tuple,
-                 "is_stamp": bool, "is_history": bool, "marks": tuple, "stamp_of": tuple, "heard": tuple,
-                 "deeds": list, "known_at": tuple}
-        self.assertEqual(sorted(kinds), sorted(name for _, name, _ in CALLS))
-        for module, name, named in CALLS:
+        for module, name, named, kind in CALLS:
             with self.subTest(name):
-                self.assertIs(type(getattr(module, name)(**named)), kinds[name])
+                self.assertIs(type(getattr(module, name)(**named)), kind)
+
+    def test_free_results_are_not_too_great(self):
+        steps = (("fork", 0),) * 3 + tuple(("deed", at % 4) for at in range(57))
+        for call, history in ((meetings.shortest_plan, steps), (meetings.flattest_plan, steps), (chains.widest, steps),
+                              (chains.longest_row, steps), (chains.fewest_rows, steps),
+                              (chains.some_entries, steps[:15]), (chains.greatest_crown, steps[:19])):
+            with self.subTest(call.__name__):
+                told = call(history)
+                self.assertLess(tuples_in(told) + repr(told).count(",") * 2, 3000)
 
     def test_another_process(self):
-        rows = [(module.__name__, name, tuple(named.values())) for module, name, named in CALLS]
+        rows = [(module.__name__, name, tuple(named.values())) for module, name, named, _ in CALLS]
         program = "import importlib\n" + "\n".join(
             f"print(repr(importlib.import_module({module!r}).{name}(*{parts!r})))" for module, name, parts in rows)
-        here = "".join(repr(getattr(module, name)(**named)) + "\n" for module, name, named in CALLS)
+        here = "".join(repr(getattr(module, name)(**named)) + "\n" for module, name, named, _ in CALLS)
         folder = os.path.dirname(os.path.dirname(os.path.abspath(shares.__file__)))
         for seed in ("0", "1", "77"):
             place = {**os.environ, "PYTHONHASHSEED": seed, "PYTHONPATH": folder, "PYTHONDONTWRITEBYTECODE": "1"}
@@ -227,7 +225,7 @@ class Limits(unittest.TestCase):
     def test_deep_values_and_values_of_many_parts(self):
         for value in (deep(40), deep_pair(40), deep_pair(40, []), full_counts(9), full_share(10), (0,) * 3000,
                       [[0] * 50] * 59, tuple([("deed", 0)] * 900), 10 ** 90 - 1, -10 ** 89, "(" * 20000):
-            for module, name, named in CALLS:
+            for module, name, named, _ in CALLS:
                 for parameter in named:
                     told = answer_of(getattr(module, name), **{**named, parameter: value})
                     if not name.startswith("is_") and value != 10 ** 90 - 1:

@@ -1,0 +1,147 @@
+"""Each function of the interface with its parameters, and the values with which it must raise the errors of [4]."""
+
+from heirstamps import chains, compared, counts, futures, histories, meetings, shares
+from tests.support import chain_counts, chain_share, full_counts, full_share, strange_values
+
+FORK = ("fork", 0)
+TALE = (FORK, ("deed", 0), ("fork", 1), ("deed", 2), ("hear", 1, 0), ("deed", 1), ("join", 0, 2))
+BOTH = (FORK, ("deed", 0), ("deed", 1))
+FOUR = (((1, 0), 0), ((0, 1), 0), (0, (1, 0)), (0, (0, 1)))
+SEVERAL = ((0, 1, 0), (0, 0, 2), 2)
+ROWS = ((1,), (0, 2))
+
+# Each function with its parameters, and arguments with which it raises nothing, and the kind of what it tells then.
+CALLS = (
+    (shares, "is_share", {"value": (0, 1)}, bool),
+    (shares, "share_at", {"share": ((0, 1), 1), "path": (0,)}, tuple),
+    (shares, "halved", {"share": (0, (1, 0))}, tuple),
+    (shares, "united", {"share": (1, 0), "other_share": (0, (0, 1))}, tuple),
+    (shares, "less", {"share": 1, "other_share": ((0, 1), 0)}, tuple),
+    (shares, "owned_paths", {"share": ((0, 1), 1)}, list),
+    (shares, "share_text", {"share": ((0, 1), 1)}, str),
+    (shares, "share_told", {"text": "((0,1),1)"}, tuple),
+    (counts, "is_counts", {"value": (0, 1, 0)}, bool),
+    (counts, "worth_at", {"counts": (1, 0, (0, 2, 0)), "path": (1,)}, tuple),
+    (counts, "joined", {"counts": (0, 1, 0), "other_counts": (0, 0, 2)}, tuple),
+    (counts, "is_within", {"counts": 1, "other_counts": (1, 0, 1)}, bool),
+    (counts, "raised", {"share": (1, 0), "counts": (2, 1, 0)}, tuple),
+    (counts, "counts_text", {"counts": (1, 0, (0, 2, 0))}, str),
+    (counts, "counts_told", {"text": "(1,0,(0,2,0))"}, tuple),
+    (counts, "is_stamp", {"value": ((0, 1), (0, 0, 1))}, bool),
+    (histories, "is_history", {"value": TALE}, bool),
+    (histories, "marks", {"history": TALE}, tuple),
+    (histories, "stamp_of", {"history": TALE, "mark": 1}, tuple),
+    (histories, "heard", {"history": TALE, "mark": 1}, tuple),
+    (histories, "deeds", {"history": TALE}, list),
+    (histories, "known_at", {"history": TALE, "count": 3}, tuple),
+    (compared, "above", {"counts": (1, 0, 1), "other_counts": 1}, tuple),
+    (compared, "met", {"counts": (1, 0, 1), "other_counts": (0, 0, 3)}, tuple),
+    (compared, "covers", {"several": SEVERAL, "counts": (1, 0, 1)}, bool),
+    (compared, "bare_path", {"several": SEVERAL[:1], "counts": (1, 0, 1)}, tuple),
+    (compared, "least_cover", {"several": SEVERAL, "counts": (1, 0, 1)}, tuple),
+    (compared, "needed", {"several": SEVERAL[:2], "counts": (1, 0, 1)}, tuple),
+    (compared, "is_loose", {"value": (0, 1, 1)}, bool),
+    (compared, "least_form", {"loose": (2, 1, (0, 1, 2))}, tuple),
+    (compared, "spread", {"counts": (1, 0, (0, 2, 0)), "number": 2}, tuple),
+    (compared, "gathered", {"worths": (1, 1, 3, 1)}, tuple),
+    (compared, "put_together", {"stamps": (((1, 0), (0, 1, 0)), ((0, 1), (0, 0, 2)))}, tuple),
+    (compared, "peak", {"shares": FOUR, "row": (0, 2, 1, 3)}, int),
+    (compared, "least_peak", {"shares": FOUR}, int),
+    (compared, "best_row", {"shares": FOUR}, tuple),
+    (futures, "least_covers", {"history": BOTH, "mark": 0}, list),
+    (futures, "cover_table", {"history": BOTH}, list),
+    (futures, "are_alike", {"history": BOTH, "other_history": BOTH + BOTH[1:]}, bool),
+    (futures, "parting", {"history": BOTH, "other_history": BOTH[:2]}, tuple),
+    (futures, "is_parting", {"history": BOTH, "other_history": BOTH[:2], "value": ((), 0, 1)}, bool),
+    (meetings, "gathering", {"history": BOTH, "mark": 0}, tuple),
+    (meetings, "knows_all", {"history": BOTH[:2]}, tuple),
+    (meetings, "is_hear_plan", {"history": BOTH, "value": (("hear", 0, 1), ("hear", 1, 0))}, bool),
+    (meetings, "shortest_plan", {"history": BOTH}, tuple),
+    (meetings, "fewest_steps", {"history": BOTH}, int),
+    (meetings, "is_join_plan", {"history": BOTH, "value": (("join", 1, 0),)}, bool),
+    (meetings, "plan_peak", {"history": BOTH, "plan": (("join", 1, 0),)}, int),
+    (meetings, "flattest_peak", {"history": BOTH}, int),
+    (meetings, "flattest_plan", {"history": BOTH}, tuple),
+    (meetings, "first_meeting", {"history": BOTH}, tuple),
+    (chains, "knows", {"history": TALE, "deed": 2, "other_deed": 0}, bool),
+    (chains, "are_apart", {"history": TALE, "deed": 1, "other_deed": 2}, bool),
+    (chains, "levels", {"history": TALE}, list),
+    (chains, "width", {"history": TALE}, int),
+    (chains, "widest", {"history": TALE}, tuple),
+    (chains, "longest_row", {"history": TALE}, tuple),
+    (chains, "fewest_rows", {"history": TALE}, tuple),
+    (chains, "is_row_sharing", {"history": TALE, "value": ROWS}, bool),
+    (chains, "row_counts", {"history": TALE, "rows": ROWS, "mark": 0}, tuple),
+    (chains, "deeds_by", {"history": TALE, "rows": ROWS, "numbers": (0, 2)}, tuple),
+    (chains, "is_entries", {"history": TALE, "value": ((0, 1), (1, 0), (0, 2))}, bool),
+    (chains, "fewest_entries", {"history": TALE}, int),
+    (chains, "some_entries", {"history": TALE}, tuple),
+    (chains, "is_crown", {"history": TALE, "value": ((0, 1), (2, 1))}, bool),
+    (chains, "greatest_crown", {"history": (FORK,) + BOTH[1:] * 2}, tuple),
+    (chains, "crown_history", {"count": 3}, tuple),
+)
+
+ERRORS = {
+    "share": ("InvalidShare", {}), "other_share": ("InvalidShare", {}), "counts": ("InvalidCounts", {}),
+    "other_counts": ("InvalidCounts", {}), "path": ("InvalidPath", {}), "history": ("InvalidHistory", {"index": 0}),
+    "other_history": ("InvalidHistory", {"index": 0}), "mark": ("InvalidMark", {}), "count": ("InvalidCount", {}),
+    "text": ("InvalidText", {"index": 0}), "several": ("InvalidCounts", {}), "loose": ("InvalidLoose", {}),
+    "number": ("InvalidCount", {}), "worths": ("InvalidWorths", {}), "stamps": ("InvalidStamp", {}),
+    "shares": ("InvalidShare", {}), "row": ("InvalidRow", {}), "plan": ("InvalidPlan", {}),
+    "deed": ("InvalidDeed", {}), "other_deed": ("InvalidDeed", {}), "rows": ("InvalidRows", {}),
+    "numbers": ("InvalidNumbers", {}),
+}
+
+MORE_WRONG = {
+    "share": [(), 2, chain_share(13), full_share(6, (1, (1, 0))), full_share(10)],
+    "counts": [(), (1, 0), chain_counts(13), full_counts(6, (0, (0, 1, 0), 0)), full_counts(9)],
+    "path": [0, 2, "01", (2,), (0, 1, 2), (0, -1), (0, True), ([],), (0,) * 13, (1,) * 40],
+    "history": [5, "f0", (("fork", 1),), (("deed", False),), (("lose", 0),), ((),), ("fork", 0)],
+    "mark": [2, 7, -1, (), (0,), 10 ** 89], "count": [0, -1, 7, (), (1,), 10 ** 89],
+    "text": [5, (), ("0",), "", ",", ")", "+1", "x" * 20000],
+    "several": [0, 3, (0,) * 9, (0, (0, 1, 1)), (0, None), (chain_counts(13),), (full_counts(9),), [0, 1]],
+    "loose": [(), (0, 1), [0, 1, 1], (0, 0, 0, 0), chain_counts(13), full_counts(9), (0, 1, (0, 0, -1))],
+    "number": [9, -1, 10 ** 89, (2,), ()],
+    "worths": [(), 0, (1, 2, 3), (0,) * 512, (0,) * 3, [0, 1], (0, -1), (0, None), (1, (0,))],
+    "stamps": [(), 0, ((1, 0),) * 9, [(1, 0)], (1, 0), ((1, 0, 0),), ((1, (0, 1, 1)),), ((chain_share(13), 0),)],
+    "shares": [(), 0, 1, (0,) * 9, [0, 1], (2,), (0, (1, 1)), (chain_share(13),), (full_share(10),)],
+    "row": [(), 0, (0, 1, 2), (0, 1, 2, 2), (0, 1, 2, 4), (0, 1, 2, 3, 0), [0, 1, 2, 3], (0, True, 2, 3), "0123"],
+    "plan": [(), (("join", 0, 0),), (("join", 0, 2),), [("join", 0, 1)], (("hear", 0, 1),), ("join", 0, 1), "j0.1",
+             (("join", 0, 1), ("join", 0, 1)), (("join", 0, True),)],
+    "deed": [3, -1, 10 ** 89, (0,), ()],
+    "rows": [(), ((0, 1), (2,)), ((1,), (0,)), ((1,), (0, 2), ()), ((1,), (0, 2), (2,)), [(1,), (0, 2)], ((1,), [0, 2])],
+    "numbers": [(), (0,), (0, 3), (2, 0), (0, 0, 0), (0, -1), [0, 2], (0, True), "02"],
+}
+for name in ("share", "counts", "history", "deed"):
+    MORE_WRONG["other_" + name] = MORE_WRONG[name]
+
+
+def are_integers(value, least=0):
+    """Whether a value is a tuple of integers from least on."""
+    return isinstance(value, tuple) and all(type(part) is int and part >= least for part in value)
+
+
+def is_plain_loose(value):
+    """Whether a value that is not deep is a loose tree."""
+    if not isinstance(value, tuple):
+        return type(value) is int and value >= 0
+    return len(value) == 3 and type(value[0]) is int and value[0] >= 0 and all(map(is_plain_loose, value[1:]))
+
+
+# Of the strange values these are right for the parameter.
+RIGHT = {
+    "path": lambda value: are_integers(value) and len(value) < 13 and set(value) <= {0, 1},
+    "text": lambda value: isinstance(value, str),
+    "several": lambda value: isinstance(value, tuple) and len(value) < 9 and all(map(counts.is_counts, value)),
+    "loose": is_plain_loose,
+    "worths": lambda value: are_integers(value) and len(value) in (1, 2, 4),
+    "stamps": lambda value: isinstance(value, tuple) and len(value) in range(1, 9) and all(map(counts.is_stamp, value)),
+    "shares": lambda value: isinstance(value, tuple) and len(value) in range(1, 9) and all(map(shares.is_share, value)),
+    "numbers": lambda value: are_integers(value) and len(value) == 2 and value[0] < 2 and value[1] < 3,
+}
+
+
+def wrong_for(parameter):
+    """Values with which the error of this parameter is raised."""
+    right = RIGHT.get(parameter, lambda value: False)
+    return [value for value in strange_values() if not right(value)] + MORE_WRONG[parameter]

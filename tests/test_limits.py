@@ -1,0 +1,144 @@
+"""[3]: that calls end within some seconds, also where their arguments are as great as they may be."""
+
+import time
+import unittest
+
+from heirstamps import chains, compared, futures, meetings
+from heirstamps.counts import is_counts
+from heirstamps.histories import is_history
+from heirstamps.shares import is_share
+from tests.support import Chance, cells, counts_of, share_of, tuples_in, worths
+
+SECONDS = 5
+
+
+def great_tree(chance, many, deepest, leaf, put):
+    """A tree with at most so many tuples, and nearly so many, made of leaves."""
+    if many == 0 or deepest == 0:
+        return leaf(chance)
+    left = chance.below(many)
+    return put(great_tree(chance, left, deepest - 1, leaf, put),
+               great_tree(chance, many - 1 - left, deepest - 1, leaf, put))
+
+
+def great_counts(seed):
+    """Counts with nearly 63 tuples."""
+    chance = Chance(seed)
+    counts = 0
+    while tuples_in(counts) < 56:
+        tree = great_tree(chance, 63, 12, lambda told: told.below(4), lambda left, right: (0, left, right))
+        counts = counts_of(worths(tree, 12))
+    return counts
+
+
+def great_share(seed):
+    """A share with nearly 60 tuples, nested at most nine deep."""
+    chance = Chance(seed)
+    share = 0
+    while tuples_in(share) < 50:
+        tree = great_tree(chance, 60, 9, lambda told: told.below(2), lambda left, right: (left, right))
+        share = share_of(cells(tree, 9))
+    return share
+
+
+def in_eighth(share, index):
+    """The share that has this one of the eighth part with this index."""
+    for at in range(3):
+        share = (0, share) if index >> at & 1 else (share, 0)
+    return share
+
+
+def great_history(seed, copies):
+    """A history of sixty steps, and so many copies."""
+    chance = Chance(seed)
+    steps = [("fork", chance.below(mark)) for mark in range(1, copies)]
+    while len(steps) < 60:
+        one, other = chance.below(copies), chance.below(copies)
+        steps.append(("deed", one) if one == other or chance.below(2) else ("hear", one, other))
+    return tuple(steps)
+
+
+class Seconds(unittest.TestCase):
+
+    def look(self, call, *parts):
+        """See that a call ends in time, and tell its answer."""
+        begun = time.monotonic()
+        told = call(*parts)
+        self.assertLess(time.monotonic() - begun, SECONDS, call.__name__)
+        return told
+
+    def test_sixty_steps_with_eight_copies(self):
+        for seed in range(6):
+            history, other = great_history(seed, 8), great_history(seed + 20, 8)
+            self.assertTrue(is_history(history) and len(history) == 60)
+            self.look(futures.cover_table, history)
+            self.look(futures.are_alike, history, other)
+            told = self.look(futures.parting, history, other)
+            self.assertIn(self.look(futures.is_parting, history, other, told), (told is not None,))
+            for mark in range(8):
+                self.look(futures.least_covers, history, mark)
+                self.look(meetings.gathering, history, mark)
+            self.look(meetings.knows_all, history)
+            plan = self.look(meetings.flattest_plan, history)
+            self.assertEqual(self.look(meetings.plan_peak, history, plan), self.look(meetings.flattest_peak, history))
+            self.look(meetings.first_meeting, history)
+            self.look(meetings.is_hear_plan, history, (("hear", 0, 1),) * 60)
+
+    def test_four_copies_that_have_heard_much(self):
+        for seed in range(6):
+            history = great_history(seed, 4)
+            plan = self.look(meetings.shortest_plan, history)
+            self.assertTrue(meetings.is_hear_plan(history, plan))
+
+    def test_sixty_deeds(self):
+        for history in ((("deed", 0),) * 60, (("fork", 0),) * 7 + tuple(("deed", at * 3 % 8) for at in range(53)),
+                        great_history(1, 8), great_history(2, 5)):
+            rows = self.look(chains.fewest_rows, history)
+            self.assertEqual(len(rows), self.look(chains.width, history))
+            self.assertTrue(self.look(chains.is_row_sharing, history, rows))
+            self.assertEqual(len(self.look(chains.levels, history)), len(self.look(chains.longest_row, history)))
+            self.look(chains.widest, history)
+            self.look(chains.row_counts, history, rows, 0)
+            self.look(chains.deeds_by, history, rows, (1,) * len(rows))
+            count = sum(step[0] == "deed" for step in history)
+            self.look(chains.is_entries, history, tuple((at,) * 49 for at in range(count)))
+
+    def test_twelve_and_sixteen_deeds(self):
+        for seed in range(40):
+            history = great_history(seed, 3 + seed % 6)
+            while sum(step[0] == "deed" for step in history) > 16:
+                history = history[:-1]
+            self.look(chains.greatest_crown, history)
+            while sum(step[0] == "deed" for step in history) > 12:
+                history = history[:-1]
+            entries = self.look(chains.some_entries, history)
+            self.assertTrue(chains.is_entries(history, entries))
+
+    def test_eight_counts_of_nearly_63_tuples(self):
+        several = tuple(great_counts(seed) for seed in range(8))
+        self.assertTrue(all(is_counts(counts) for counts in several))
+        for counts in (several[0], great_counts(9), 3, 1):
+            covered = self.look(compared.covers, several, counts)
+            self.assertIs(self.look(compared.bare_path, several, counts) is None, covered)
+            self.assertIs(self.look(compared.least_cover, several, counts) is not None, covered)
+            self.assertIs(self.look(compared.needed, several, counts) is not None, covered)
+
+    def test_eight_shares_of_nearly_63_tuples(self):
+        shares = tuple(in_eighth(great_share(seed), seed) for seed in range(8))
+        self.assertTrue(all(is_share(share) for share in shares))
+        least = self.look(compared.least_peak, shares)
+        self.assertGreater(least, 400)
+        row = self.look(compared.best_row, shares)
+        self.assertEqual(self.look(compared.peak, shares, row), least)
+
+    def test_eight_shares_that_are_near_one_another(self):
+        # Each one has a part of each quarter, so that what is united is great on the way and flat at the end.
+        owners = [at % 8 for at in range(32)]
+        shares = tuple(share_of([int(owner == index) for owner in owners]) for index in range(8))
+        self.assertTrue(all(is_share(share) for share in shares))
+        row = self.look(compared.best_row, shares)
+        self.assertEqual(compared.peak(shares, row), self.look(compared.least_peak, shares))
+
+
+if __name__ == "__main__":
+    unittest.main()
