@@ -1,8 +1,8 @@
 """Which deed knows which: rows of deeds, entries that tell it, and crowns."""
 
 from heirstamps.cliques import greatest_clique
-from heirstamps.errors import InvalidCount, InvalidDeed, InvalidNumbers, InvalidRows, TooMany
-from heirstamps.histories import check_mark
+from heirstamps.errors import InvalidCount, InvalidNumbers, InvalidRows, TooMany
+from heirstamps.histories import check_deed, check_mark
 from heirstamps.lots import mask_of
 from heirstamps.orders import RowSharing, longest_row_of, row_lengths
 from heirstamps.realizers import realizer_of
@@ -26,10 +26,10 @@ def _is_deed(value, below):
 
 def _two_deeds(history, deed, other_deed):
     """The list that has for each deed the mask of those it knows; InvalidDeed unless both are deeds."""
-    below = _below_of(standing_behind(history))
-    if not _is_deed(deed, below) or not _is_deed(other_deed, below):
-        raise InvalidDeed("not the number of a deed of the history")
-    return below
+    standing = standing_behind(history)
+    check_deed(standing, deed)
+    check_deed(standing, other_deed)
+    return _below_of(standing)
 
 
 def _knows(below, deed, other_deed):
@@ -109,7 +109,7 @@ def row_counts(history, rows, mark):
     """The tuple that tells how many deeds of each row the copy has heard."""
     standing = _shared_standing(history, rows)
     check_mark(standing, mark)
-    heard = standing.heard[mark]
+    heard = standing.heard_by[mark]
     return tuple([len([deed for deed in row if deed in heard]) for row in rows])
 
 

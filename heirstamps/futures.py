@@ -9,7 +9,7 @@ from heirstamps.standing import standing_behind
 
 def heard_masks(hearing):
     """The dict that has for each copy that is there, marks ascending, the mask of the deeds that it has heard."""
-    return {mark: mask_of(hearing.heard[mark]) for mark in sorted(hearing.heard)}
+    return {mark: mask_of(hearing.heard_by[mark]) for mark in sorted(hearing.heard_by)}
 
 
 def covers_copy(masks, lot, mark):
@@ -51,7 +51,7 @@ def _are_even(hearing, other_hearing):
     """Whether the same marks are there, and the next mark is the same."""
     if hearing.next_mark != other_hearing.next_mark:
         return False
-    return sorted(hearing.heard) == sorted(other_hearing.heard)
+    return sorted(hearing.heard_by) == sorted(other_hearing.heard_by)
 
 
 def _first_unlike(hearing, other_hearing):

@@ -24,23 +24,23 @@ class Hearing:
     """
 
     def __init__(self):
-        self.heard = {0: ()}
+        self.heard_by = {0: ()}
         self.next_mark = 1
         self.doers = []
         self.known = []
 
     def has(self, mark):
         """Whether a value is the mark of a copy that is there."""
-        return type(mark) is int and mark in self.heard
+        return type(mark) is int and mark in self.heard_by
 
     def allows(self, step):
         """Whether a value is a step that can be done, whatever the stamps."""
         if not is_step_form(step) or not all([self.has(mark) for mark in step[1:]]):
             return False
         if step[0] == "fork":
-            return len(self.heard) < MOST_COPIES
+            return len(self.heard_by) < MOST_COPIES
         if step[0] == "lose":
-            return len(self.heard) > 1
+            return len(self.heard_by) > 1
         return len(step) == 2 or step[1] != step[2]
 
     def do(self, step):
@@ -58,27 +58,27 @@ class Hearing:
 
     def do_fork(self, mark):
         """Let a further copy come, which has heard what this one has."""
-        self.heard[self.next_mark] = self.heard[mark]
+        self.heard_by[self.next_mark] = self.heard_by[mark]
         self.next_mark += 1
 
     def do_deed(self, mark):
         """Let the copy do the next deed."""
-        self.heard[mark] = self.heard[mark] + (len(self.doers),)
+        self.heard_by[mark] = self.heard_by[mark] + (len(self.doers),)
         self.doers.append(mark)
-        self.known.append(self.heard[mark])
+        self.known.append(self.heard_by[mark])
 
     def do_hear(self, mark, other_mark):
         """Let the first copy hear what the other one has heard."""
-        self.heard[mark] = _either(self.heard[mark], self.heard[other_mark])
+        self.heard_by[mark] = _either(self.heard_by[mark], self.heard_by[other_mark])
 
     def do_join(self, mark, other_mark):
         """Let the first copy hear the other one, which goes."""
-        self.heard[mark] = _either(self.heard[mark], self.heard[other_mark])
+        self.heard_by[mark] = _either(self.heard_by[mark], self.heard_by[other_mark])
         self.do_lose(other_mark)
 
     def do_lose(self, mark):
         """Let the copy go."""
-        del self.heard[mark]
+        del self.heard_by[mark]
 
 
 def hearing_behind(hearing, steps):
@@ -86,7 +86,7 @@ def hearing_behind(hearing, steps):
     if type(steps) is not tuple or len(steps) > MOST_STEPS:
         return None
     later = Hearing()
-    later.heard = {mark: hearing.heard[mark] for mark in hearing.heard}
+    later.heard_by = {mark: hearing.heard_by[mark] for mark in hearing.heard_by}
     later.next_mark = hearing.next_mark
     later.doers = list(hearing.doers)
     later.known = list(hearing.known)

@@ -1,6 +1,6 @@
 """Histories: steps of copies that fork, do deeds, hear one another, join and go."""
 
-from heirstamps.errors import InvalidCount, InvalidHistory, InvalidMark
+from heirstamps.errors import InvalidCount, InvalidDeed, InvalidHistory, InvalidMark
 from heirstamps.standing import standing_behind
 
 
@@ -25,6 +25,12 @@ def check_mark(standing, value):
         raise InvalidMark("not the mark of a copy that is there")
 
 
+def check_deed(standing, value):
+    """Raise InvalidDeed unless the value is the number of a deed."""
+    if type(value) is not int or value < 0 or value >= len(standing.doers):
+        raise InvalidDeed("not the number of a deed of the history")
+
+
 def stamp_of(history, mark):
     """The stamp of the copy."""
     standing = standing_behind(history)
@@ -36,7 +42,7 @@ def heard(history, mark):
     """The lot of the deeds that the copy has heard."""
     standing = standing_behind(history)
     check_mark(standing, mark)
-    return standing.heard[mark]
+    return standing.heard_by[mark]
 
 
 def deeds(history):

@@ -40,7 +40,7 @@ def is_hear_plan(history, value):
     later = hearing_behind(standing_behind(history), value)
     if later is None or not all([step[0] == "hear" for step in value]):
         return False
-    lots = list(later.heard.values())
+    lots = list(later.heard_by.values())
     return all([lot == lots[0] for lot in lots])
 
 
@@ -90,7 +90,7 @@ def _is_join_plan(standing, value):
     later = hearing_behind(standing, value)
     if later is None or not all([step[0] == "join" for step in value]):
         return False
-    return len(later.heard) == 1
+    return len(later.heard_by) == 1
 
 
 def is_join_plan(history, value):

@@ -129,10 +129,10 @@ def less(share, other_share):
     """The share of what the first share has and the other one has not."""
     check_share(share)
     check_share(other_share)
-    return bounded(_less_tree(share, other_share))
+    return bounded(less_tree(share, other_share))
 
 
-def _less_tree(share, other_share):
+def less_tree(share, other_share):
     """What the first share has and the other one has not, whatever its size."""
     if share == 0 or other_share == 1:
         return 0
@@ -140,7 +140,7 @@ def _less_tree(share, other_share):
         return share
     left, right = share_halves(share)
     other_left, other_right = other_share
-    return share_whole(_less_tree(left, other_left), _less_tree(right, other_right))
+    return share_whole(less_tree(left, other_left), less_tree(right, other_right))
 
 
 def owned_paths(share):

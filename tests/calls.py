@@ -1,6 +1,6 @@
 """Each function of the interface with its parameters, and the values with which it must raise the errors of [4]."""
 
-from heirstamps import chains, compared, counts, futures, histories, meetings, shares
+from heirstamps import bits, chains, compared, counts, dots, futures, histories, lost, meetings, shares, shelves
 from tests.support import chain_counts, chain_share, full_counts, full_share, strange_values
 
 FORK = ("fork", 0)
@@ -9,6 +9,11 @@ BOTH = (FORK, ("deed", 0), ("deed", 1))
 FOUR = (((1, 0), 0), ((0, 1), 0), (0, (1, 0)), (0, (0, 1)))
 SEVERAL = ((0, 1, 0), (0, 0, 2), 2)
 ROWS = ((1,), (0, 2))
+SHELF = ((0, 1, (0, 0, 1)), (((0,), 1), ((1, 1), 1)))
+OTHER_SHELF = ((0, 1, (0, 1, 0)), (((1, 0), 1),))
+STRIKES = ((), (), (0,))
+CREW = (((1, 0), (0, 0, (0, 0, 2))), ((0, (1, 0)), (0, 0, (0, 0, 1))))
+PART = (0, (0, 1))
 
 # Each function with its parameters, and arguments with which it raises nothing, and the kind of what it tells then.
 CALLS = (
@@ -79,6 +84,34 @@ CALLS = (
     (chains, "is_crown", {"history": TALE, "value": ((0, 1), (2, 1))}, bool),
     (chains, "greatest_crown", {"history": (FORK,) + BOTH[1:] * 2}, tuple),
     (chains, "crown_history", {"count": 3}, tuple),
+    (bits, "word_of", {"history": TALE, "mark": 0, "size": 2, "bits": 1}, tuple),
+    (bits, "seems", {"history": TALE, "mark": 1, "other_mark": 0, "size": 2, "bits": 1}, bool),
+    (bits, "false_pairs", {"history": TALE, "size": 2, "bits": 1}, list),
+    (bits, "least_size", {"history": TALE, "bits": 1}, int),
+    (dots, "is_dot", {"value": ((0,), 1)}, bool),
+    (dots, "has_dot", {"counts": (0, 1, 0), "dot": ((0, 1), 1)}, bool),
+    (dots, "dot_behind", {"share": (1, (0, 1)), "counts": (0, 1, (0, 0, 1))}, tuple),
+    (dots, "least_counts", {"dots": (((0,), 1), ((1, 1), 1))}, tuple),
+    (dots, "dot_of", {"history": TALE, "deed": 1}, tuple),
+    (dots, "deed_by", {"history": TALE, "dot": ((1, 0), 1)}, int),
+    (dots, "deeds_told", {"history": TALE, "counts": (0, 1, 0)}, tuple),
+    (dots, "is_shelf", {"value": (0, (((0,), 1),))}, bool),
+    (dots, "merged", {"shelf": SHELF, "other_shelf": OTHER_SHELF}, tuple),
+    (dots, "put", {"share": (1, (0, 1)), "shelf": SHELF, "dots": (((0,), 1),)}, tuple),
+    (dots, "struck_off", {"share": (1, (0, 1)), "shelf": SHELF, "dots": (((0,), 1),)}, tuple),
+    (shelves, "held", {"history": TALE, "strikes": STRIKES, "mark": 1}, tuple),
+    (shelves, "struck_by", {"history": TALE, "strikes": STRIKES, "mark": 1, "deed": 0}, tuple),
+    (shelves, "shelf_of", {"history": TALE, "strikes": STRIKES, "mark": 1}, tuple),
+    (shelves, "all_struck", {"history": TALE}, tuple),
+    (lost, "is_crew", {"value": CREW}, bool),
+    (lost, "crew_of", {"history": TALE}, tuple),
+    (lost, "lost_share", {"crew": CREW}, tuple),
+    (lost, "may_take", {"crew": CREW, "member": 0, "share": PART}, bool),
+    (lost, "barring", {"crew": CREW, "member": 1, "share": PART}, tuple),
+    (lost, "takeable", {"crew": CREW, "member": 0}, tuple),
+    (lost, "takers", {"crew": CREW, "share": PART}, tuple),
+    (lost, "hear_first", {"crew": CREW, "member": 1, "share": PART}, tuple),
+    (lost, "taken", {"crew": CREW, "member": 0, "share": PART}, tuple),
 )
 
 ERRORS = {
@@ -89,7 +122,10 @@ ERRORS = {
     "number": ("InvalidCount", {}), "worths": ("InvalidWorths", {}), "stamps": ("InvalidStamp", {}),
     "shares": ("InvalidShare", {}), "row": ("InvalidRow", {}), "plan": ("InvalidPlan", {}),
     "deed": ("InvalidDeed", {}), "other_deed": ("InvalidDeed", {}), "rows": ("InvalidRows", {}),
-    "numbers": ("InvalidNumbers", {}),
+    "numbers": ("InvalidNumbers", {}), "other_mark": ("InvalidMark", {}), "size": ("InvalidCount", {}),
+    "bits": ("InvalidCount", {}), "dot": ("InvalidDot", {}), "dots": ("InvalidDots", {}),
+    "shelf": ("InvalidShelf", {}), "other_shelf": ("InvalidShelf", {}), "strikes": ("InvalidStrikes", {"index": 0}),
+    "crew": ("InvalidCrew", {}), "member": ("InvalidMember", {}),
 }
 
 MORE_WRONG = {
@@ -111,8 +147,19 @@ MORE_WRONG = {
     "deed": [3, -1, 10 ** 89, (0,), ()],
     "rows": [(), ((0, 1), (2,)), ((1,), (0,)), ((1,), (0, 2), ()), ((1,), (0, 2), (2,)), [(1,), (0, 2)], ((1,), [0, 2])],
     "numbers": [(), (0,), (0, 3), (2, 0), (0, 0, 0), (0, -1), [0, 2], (0, True), "02"],
+    "size": [0, 65, 10 ** 89, (2,), ()], "bits": [0, 5, 10 ** 89, (2,), ()],
+    "dot": [(), 1, ((0,), 0), ((0,) * 13, 1), ((2,), 1), ((0,), True), [(0,), 1], ([0], 1), ((0,), 1, 1), ((0,), -1)],
+    "dots": [0, [((0,), 1)], ((0,), 1), (((1, 1), 1), ((0,), 1)), (((0,), 1), ((0,), 1)), (((0,) * 13, 1),),
+             tuple(((0,), worth) for worth in range(1, 42)), (((0,), True),), (((0,), 1), ((1, 1), 0)), (1,)],
+    "shelf": [(), 0, (0, (((), 1),)), (41, tuple(((), worth) for worth in range(1, 42))), [1, ()], (1, []), (1, (), ()),
+              (2, (((), 2), ((), 1))), (True, ()), ((0, 1, 1), ()), (full_counts(9), ()), (chain_counts(13), ())],
+    "strikes": [0, (), ((1,), (), ()), ((0, 0), (), ()), ((False,), (), ()), (0, (), ()), [(), (), (0,)], "012",
+                ([0], (), ()), ((0, 1), (0, 1)), ((-1,),)],
+    "crew": [(), 0, (1, 0), [(1, 0)], ((1, 0), (1, 0)), ((0, 0),) * 9, ((1, 0), (0, None)), ((1, (0, 1, 1)),),
+             ((chain_share(13), 0),), ((full_share(10), 0),), (((0, 1), 0), ((0, (1, 0)), 0))],
+    "member": [2, -1, 10 ** 89, (0,), ()],
 }
-for name in ("share", "counts", "history", "deed"):
+for name in ("share", "counts", "history", "deed", "mark", "shelf"):
     MORE_WRONG["other_" + name] = MORE_WRONG[name]
 
 
@@ -138,6 +185,9 @@ RIGHT = {
     "stamps": lambda value: isinstance(value, tuple) and len(value) in range(1, 9) and all(map(counts.is_stamp, value)),
     "shares": lambda value: isinstance(value, tuple) and len(value) in range(1, 9) and all(map(shares.is_share, value)),
     "numbers": lambda value: are_integers(value) and len(value) == 2 and value[0] < 2 and value[1] < 3,
+    "dot": lambda value: value == ((0, 0), 1),
+    # A good entry leads to another index; test_shelves looks at these.
+    "strikes": lambda value: value == ((), ()),
 }
 
 

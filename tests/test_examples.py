@@ -1,7 +1,8 @@
-"""The examples of DOC.md that parts 1 to 4 can answer, and others that are near them."""
+"""The examples of DOC.md, and others that are near them."""
 
 import unittest
 
+from heirstamps.bits import false_pairs, least_size, seems, word_of
 from heirstamps.chains import (
     are_apart, crown_history, deeds_by, fewest_entries, greatest_crown, is_crown, is_entries, is_row_sharing, knows,
     levels, longest_row, row_counts, width,
@@ -11,16 +12,22 @@ from heirstamps.compared import (
     put_together, spread,
 )
 from heirstamps.counts import counts_told, is_within, joined, raised, worth_at
-from heirstamps.errors import InvalidText, Overlap, Refused
+from heirstamps.dots import (
+    deed_by, deeds_told, dot_behind, dot_of, has_dot, is_shelf, least_counts, merged, put, struck_off,
+)
+from heirstamps.errors import InvalidText, NotHeard, NotLost, Overlap, Refused
 from heirstamps.futures import are_alike, cover_table, is_parting, least_covers, parting
 from heirstamps.histories import deeds, heard, known_at, marks, stamp_of
+from heirstamps.lost import barring, crew_of, hear_first, lost_share, may_take, takeable, taken, takers
 from heirstamps.meetings import (
     fewest_steps, first_meeting, flattest_peak, gathering, is_hear_plan, is_join_plan, knows_all, plan_peak,
 )
 from heirstamps.shares import halved, less, owned_paths, share_at, share_told, united
+from heirstamps.shelves import all_struck, held, shelf_of, struck_by
 
 TALE = (("fork", 0), ("deed", 0), ("fork", 1), ("deed", 2), ("hear", 1, 0), ("deed", 1), ("join", 0, 2))
 BOTH = (("fork", 0), ("deed", 0), ("deed", 1))
+END = (("fork", 0), ("fork", 1), ("deed", 2), ("hear", 1, 2), ("deed", 2), ("hear", 0, 2), ("lose", 2))
 
 
 class Examples(unittest.TestCase):
@@ -157,14 +164,63 @@ class ChainExamples(unittest.TestCase):
         self.assertIs(is_crown(three, ((0, 1, 2), (3, 4, 5))), True)
 
 
+class StoreExamples(unittest.TestCase):
+    """That of words of bits, and those of parts 5 and 6 up to lost."""
+
+    def test_bits(self):
+        self.assertEqual(word_of(TALE, 0, 2, 1), (0, 1))
+        self.assertEqual(word_of(TALE, 1, 2, 1), (1,))
+        self.assertEqual(false_pairs(TALE, 2, 1), [(0, 1)])
+        self.assertEqual(least_size(TALE, 1), 3)
+        self.assertIs(seems(TALE, 1, 0, 2, 1), False)
+
+    def test_dots(self):
+        self.assertEqual([dot_of(TALE, deed) for deed in range(3)], [((0,), 1), ((1, 1), 1), ((1, 0), 1)])
+        self.assertEqual(deed_by(TALE, ((1, 0), 1)), 2)
+        self.assertIsNone(deed_by(TALE, ((0,), 2)))
+        self.assertEqual(deeds_told(TALE, (0, 1, 0)), (0,))
+        self.assertEqual(deeds_told(TALE, 1), (0, 1, 2))
+
+    def test_shelves(self):
+        self.assertEqual(all_struck(TALE), ((), (), (0,)))
+        self.assertEqual(held(TALE, all_struck(TALE), 0), (0, 1))
+        self.assertEqual(held(TALE, all_struck(TALE), 1), (2,))
+        self.assertEqual(held(TALE, ((), (1,), ()), 1), (0, 2))
+        self.assertEqual(struck_by(TALE, all_struck(TALE), 1, 0), (2,))
+        one, two = shelf_of(TALE, all_struck(TALE), 0), shelf_of(TALE, all_struck(TALE), 1)
+        self.assertEqual(one, ((0, 1, (0, 0, 1)), (((0,), 1), ((1, 1), 1))))
+        self.assertEqual(merged(one, two), (1, (((1, 0), 1), ((1, 1), 1))))
+        self.assertEqual(dot_behind((1, (0, 1)), one[0]), ((0,), 2))
+        self.assertEqual(put((1, (0, 1)), one, (((0,), 1),)), ((0, 2, (0, 0, 1)), (((0,), 2), ((1, 1), 1))))
+        self.assertEqual(struck_off((1, (0, 1)), one, ()), ((0, 2, (0, 0, 1)), (((0,), 1), ((1, 1), 1))))
+        self.assertEqual(least_counts((((0,), 1), ((1, 1), 1))), (0, 1, (0, 0, 1)))
+        self.assertIs(has_dot((0, 1, 0), ((0, 1), 1)), True)
+        self.assertIs(is_shelf((0, (((0,), 1),))), False)
+
+    def test_lost(self):
+        crew = crew_of(END)
+        part = (0, (0, 1))
+        self.assertEqual(crew, (((1, 0), (0, 0, (0, 0, 2))), ((0, (1, 0)), (0, 0, (0, 0, 1)))))
+        self.assertEqual([lost_share(crew), takeable(crew, 0), takeable(crew, 1)], [part, part, 0])
+        self.assertEqual(barring(crew, 1, part), (0,))
+        self.assertEqual([may_take(crew, 0, part), may_take(crew, 0, 1)], [True, False])
+        self.assertEqual([takers(crew, part), hear_first(crew, 1, part)], [(0,), (0,)])
+        self.assertEqual(taken(crew, 0, part)[0], ((1, (0, 1)), (0, 0, (0, 0, 2))))
+        with self.assertRaises(NotHeard) as caught:
+            taken(crew, 1, part)
+        self.assertEqual(caught.exception.member, 0)
+        with self.assertRaises(NotLost) as caught:
+            takers(crew, (0, 1))
+        self.assertEqual(caught.exception.path, (1, 0))
+
+
 class FartherExamples(unittest.TestCase):
     """Stamps of histories that DOC.md tells in its later parts."""
 
     def test_crew(self):
-        end = (("fork", 0), ("fork", 1), ("deed", 2), ("hear", 1, 2), ("deed", 2), ("hear", 0, 2), ("lose", 2))
-        self.assertEqual(marks(end), (0, 1))
-        self.assertEqual(stamp_of(end, 0), ((1, 0), (0, 0, (0, 0, 2))))
-        self.assertEqual(stamp_of(end, 1), ((0, (1, 0)), (0, 0, (0, 0, 1))))
+        self.assertEqual(marks(END), (0, 1))
+        self.assertEqual(stamp_of(END, 0), ((1, 0), (0, 0, (0, 0, 2))))
+        self.assertEqual(stamp_of(END, 1), ((0, (1, 0)), (0, 0, (0, 0, 1))))
 
     def test_live(self):
         steps = (("fork", 0), ("deed", 0), ("fork", 1), ("deed", 2), ("hear", 1, 0))

@@ -94,9 +94,9 @@ class Hearings(unittest.TestCase):
     def test_the_one_behind_is_new(self):
         standing = standing_behind((("fork", 0), ("deed", 0)))
         later = hearing_behind(standing, (("deed", 1), ("hear", 0, 1), ("fork", 0), ("lose", 1)))
-        self.assertEqual(standing.heard, {0: (0,), 1: ()})
+        self.assertEqual(standing.heard_by, {0: (0,), 1: ()})
         self.assertEqual((standing.doers, standing.known, standing.next_mark), ([0], [(0,)], 2))
-        self.assertEqual(later.heard, {0: (0, 1), 2: (0, 1)})
+        self.assertEqual(later.heard_by, {0: (0, 1), 2: (0, 1)})
         self.assertEqual((later.doers, later.known, later.next_mark), ([0, 1], [(0,), (1,)], 3))
         self.assertIsNone(hearing_behind(standing, (("deed", 2),)))
 

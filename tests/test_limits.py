@@ -3,8 +3,9 @@
 import time
 import unittest
 
-from heirstamps import chains, compared, futures, meetings
+from heirstamps import bits, chains, compared, dots, futures, lost, meetings, shelves
 from heirstamps.counts import is_counts
+from heirstamps.errors import TooMany
 from heirstamps.histories import is_history
 from heirstamps.shares import is_share
 from tests.support import Chance, cells, counts_of, share_of, tuples_in, worths
@@ -138,6 +139,49 @@ class Seconds(unittest.TestCase):
         self.assertTrue(all(is_share(share) for share in shares))
         row = self.look(compared.best_row, shares)
         self.assertEqual(compared.peak(shares, row), self.look(compared.least_peak, shares))
+
+    def test_words_dots_and_shelves_of_sixty_steps(self):
+        for seed in range(4):
+            history = great_history(seed, 8)
+            count = len([step for step in history if step[0] == "deed"])
+            self.look(bits.least_size, history, 4)
+            self.look(bits.false_pairs, history, 64, 4)
+            for deed in range(count):
+                self.assertEqual(self.look(dots.deed_by, history, self.look(dots.dot_of, history, deed)), deed)
+            strikes = self.look(shelves.all_struck, history)
+            for mark in range(8):
+                self.assertTrue(dots.is_shelf(self.look(shelves.shelf_of, history, strikes, mark)))
+
+    def test_forty_dots_twelve_halves_deep(self):
+        dotted = tuple(((0,) * 12, worth) for worth in range(1, 41))
+        shelf = (self.look(dots.least_counts, dotted), dotted)
+        self.assertEqual(tuples_in(shelf[0]), 12)
+        self.assertEqual(self.look(dots.merged, shelf, shelf), shelf)
+        self.assertEqual(len(self.look(dots.put, (1, 0), shelf, dotted[1:])[1]), 2)
+        self.assertEqual(self.look(dots.struck_off, (0, 1), shelf, ())[1], dotted)
+        chance = Chance(5)
+        paths = sorted({tuple(chance.below(2) for _ in range(12)) for _ in range(40)})
+        with self.assertRaises(TooMany):
+            self.look(dots.least_counts, tuple((path, 3) for path in paths))
+
+    def test_crews_of_eight_great_members(self):
+        for seed in range(3):
+            crew = tuple((in_eighth(great_share(seed + at), at), great_counts(seed + 3 * at)) for at in range(8))
+            self.assertTrue(self.look(lost.is_crew, crew))
+            with self.assertRaises(TooMany):
+                self.look(lost.lost_share, crew)
+            free = tuple((0, counts) for _, counts in crew)
+            for member in range(8):
+                for share in (1, (1, 0), great_share(seed + 50)):
+                    bars = self.look(lost.barring, free, member, share)
+                    self.assertIs(self.look(lost.may_take, free, member, share), bars == ())
+                    lot = self.look(lost.hear_first, free, member, share)
+                    self.assertIs(lot == (), bars == ())
+                    self.look(lost.takers, free, share)
+                try:
+                    self.look(lost.takeable, crew, member)
+                except TooMany as error:
+                    self.assertEqual(error.count, 63)
 
 
 if __name__ == "__main__":

@@ -8,8 +8,10 @@ import sys
 import unittest
 from itertools import combinations
 
-from heirstamps import chains, compared, counts, errors, futures, histories, meetings, shares
-from tests.calls import BOTH, CALLS, ERRORS, MORE_WRONG, ROWS, TALE, wrong_for
+from heirstamps import (
+    bits, chains, compared, counts, dots, errors, futures, histories, lost, meetings, shares, shelves,
+)
+from tests.calls import BOTH, CALLS, CREW, ERRORS, MORE_WRONG, ROWS, SHELF, STRIKES, TALE, wrong_for
 from tests.support import (
     chain_counts, chain_share, deep, deep_pair, full_counts, full_share, strange_values, tuples_in,
 )
@@ -95,7 +97,17 @@ class Errors(unittest.TestCase):
                 (meetings.shortest_plan, ((("fork", 0),) * 8,), "InvalidHistory"),
                 (chains.some_entries, ((("deed", 0),) * 61,), "InvalidHistory"),
                 (chains.deeds_by, (TALE, ((0,),), None), "InvalidRows"),
-                (chains.row_counts, (TALE, ((0,),), None), "InvalidRows")):
+                (chains.row_counts, (TALE, ((0,),), None), "InvalidRows"),
+                (bits.word_of, (TALE, 2, 0, 5), "InvalidMark"), (bits.seems, (TALE, 0, 1, 65, 5), "InvalidCount"),
+                (dots.dot_behind, (0, (0, 0, 0)), "InvalidCounts"), (dots.put, (0, SHELF, None), "InvalidDots"),
+                (dots.struck_off, (0, SHELF, (((1,), 1),)), "InvalidDots"),
+                (dots.put, (chain_share(7), (full_counts(6), ()), (((), 1),)), "InvalidDots"),
+                (dots.merged, ((full_counts(6), ()), (full_counts(7), ())), "InvalidShelf"),
+                (dots.deed_by, ((), ((), 0)), "InvalidDot"), (dots.dot_of, ((None,), 5), "InvalidHistory"),
+                (shelves.shelf_of, ((("deed", 0),) * 41, ((),) * 41, 7), "InvalidMark"),
+                (shelves.struck_by, (TALE, STRIKES, 2, 3), "InvalidMark"),
+                (lost.taken, (CREW, 2, 1), "InvalidMember"), (lost.hear_first, (CREW, 0, (1, 1)), "InvalidShare"),
+                (lost.takers, (CREW, 2), "InvalidShare"), (lost.lost_share, (((1, 0),) * 2,), "InvalidCrew")):
             with self.subTest(call.__name__, parts=parts):
                 self.assertEqual(answer_of(call, *parts)[0], error)
 
@@ -112,7 +124,15 @@ class Errors(unittest.TestCase):
                                     (chains, "row_counts", (TALE, ((True,), (0, 2)), 0)),
                                     (chains, "row_counts", (TALE, ROWS, True)),
                                     (chains, "deeds_by", (TALE, ROWS, (True, False))),
-                                    (chains, "crown_history", (True,))):
+                                    (chains, "crown_history", (True,)),
+                                    (bits, "word_of", (TALE, 0, True, 1)), (bits, "least_size", (TALE, True)),
+                                    (bits, "seems", (TALE, True, 0, 2, 1)), (bits, "seems", (TALE, 0, True, 2, 1)),
+                                    (dots, "has_dot", (1, ((True,), 1))), (dots, "has_dot", (1, ((0,), True))),
+                                    (dots, "least_counts", ((((), True),),)), (dots, "dot_of", (TALE, True)),
+                                    (dots, "put", (True, SHELF, ())), (dots, "merged", ((True, ()), SHELF)),
+                                    (shelves, "held", (TALE, ((False,), (), ()), 0)),
+                                    (lost, "takeable", (CREW, True)), (lost, "lost_share", (((True, 0),),)),
+                                    (lost, "takers", (CREW, False))):
             with self.subTest(name, parts=parts):
                 self.assertNotEqual(answer_of(getattr(module, name), *parts)[0], "told")
 
@@ -129,7 +149,7 @@ class Errors(unittest.TestCase):
                 with self.subTest(name, value=value):
                     told = getattr(module, name)(**{**named, "value": value})
                     self.assertIs(type(told), bool)
-        self.assertEqual(looked, 11)
+        self.assertEqual(looked, 14)
 
     def test_strange_values_are_nothing(self):
         for value in strange_values():
@@ -143,6 +163,9 @@ class Errors(unittest.TestCase):
                 self.assertIs(chains.is_row_sharing(TALE, value), False)
                 self.assertIs(chains.is_entries(TALE, value), False)
                 self.assertIs(chains.is_crown(TALE, value), False)
+                self.assertIs(dots.is_dot(value), value == ((0, 0), 1))
+                self.assertIs(dots.is_shelf(value), False)
+                self.assertIs(lost.is_crew(value), False)
 
 
 class Arguments(unittest.TestCase):
@@ -170,6 +193,8 @@ class Arguments(unittest.TestCase):
         self.assertIs(futures.is_parting(TALE, TALE, ((), 0, 1)), False)
         self.assertIs(chains.knows(TALE, 2, 2), False)
         self.assertIs(chains.are_apart(TALE, 2, 2), False)
+        self.assertIs(bits.seems(TALE, 1, 1, 2, 1), True)
+        self.assertEqual(dots.merged(SHELF, SHELF), SHELF)
 
 
 class SameAnswers(unittest.TestCase):
