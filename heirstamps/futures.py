@@ -47,14 +47,26 @@ def cover_table(history):
     return [(mark, _least_covers(masks, mark)) for mark in masks]
 
 
-def _are_even(hearing, other_hearing):
+def are_even(hearing, other_hearing):
     """Whether the same marks are there, and the next mark is the same."""
     if hearing.next_mark != other_hearing.next_mark:
         return False
     return sorted(hearing.heard_by) == sorted(other_hearing.heard_by)
 
 
-def _first_unlike(hearing, other_hearing):
+def cover_sign(hearing):
+    """A tuple that two hearings have in common exactly if they are alike for every future."""
+    masks = list(heard_masks(hearing).values())
+    unions = [0]
+    for lot_mask in range(1, 1 << len(masks)):
+        last = lot_mask.bit_length() - 1
+        unions.append(unions[lot_mask - (1 << last)] | masks[last])
+    # The lot of no copies covers none, also of such as have heard nothing.
+    covered = [mask | union == union for union in unions[1:] for mask in masks]
+    return (hearing.next_mark, tuple(sorted(hearing.heard_by)), tuple(covered))
+
+
+def first_unlike(hearing, other_hearing):
     """The tuple (lot, mark) of a lot that covers the copy behind just one of two even histories; None for none."""
     masks = heard_masks(hearing)
     other_masks = heard_masks(other_hearing)
@@ -69,14 +81,14 @@ def are_alike(history, other_history):
     """Whether the two histories are alike for every future."""
     standing = standing_behind(history)
     other_standing = standing_behind(other_history)
-    return _are_even(standing, other_standing) and _first_unlike(standing, other_standing) is None
+    return are_even(standing, other_standing) and first_unlike(standing, other_standing) is None
 
 
 def _even_standings(history, other_history):
     """The standings behind two histories; Refused unless they are even."""
     standing = standing_behind(history)
     other_standing = standing_behind(other_history)
-    if not _are_even(standing, other_standing):
+    if not are_even(standing, other_standing):
         raise Refused("the histories are not even")
     return (standing, other_standing)
 
@@ -84,7 +96,7 @@ def _even_standings(history, other_history):
 def parting(history, other_history):
     """Hear steps and two marks, behind which a look parts the two histories; None if they are alike."""
     standing, other_standing = _even_standings(history, other_history)
-    unlike = _first_unlike(standing, other_standing)
+    unlike = first_unlike(standing, other_standing)
     if unlike is None:
         return None
     # Each copy of the lot that another one hears adds to this what it has heard, so this comes to cover the mark.

@@ -35,7 +35,7 @@ def stamp_of(history, mark):
     """The stamp of the copy."""
     standing = standing_behind(history)
     check_mark(standing, mark)
-    return (standing.shares[mark], standing.counts[mark])
+    return standing.stamp_at(mark)
 
 
 def heard(history, mark):

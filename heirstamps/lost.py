@@ -35,8 +35,7 @@ def _check_member(crew, value):
 
 def crew_of(history):
     """The tuple of the stamps of the copies that are there, by their marks ascending."""
-    standing = standing_behind(history)
-    return tuple([(standing.shares[mark], standing.counts[mark]) for mark in sorted(standing.shares)])
+    return tuple(standing_behind(history).stamps())
 
 
 def _lost_tree(crew):

@@ -41,6 +41,16 @@ class Reader:
             digits += self.take(DIGITS)
         return int(digits)
 
+    def take_within(self, low, high):
+        """Go past one of the numbers from low to high, without needless zeros, and return it."""
+        texts = [str(number) for number in range(low, high + 1)]
+        digits = ""
+        while any([text.startswith(digits) and self.sees(text[len(digits):len(digits) + 1]) for text in texts]):
+            digits += self.take(DIGITS)
+        if digits not in texts:
+            raise InvalidText(self.at)
+        return int(digits)
+
     def begin_tuple(self):
         """Go into a tuple, if the bounds leave room for one more."""
         # What is begun can always be ended without further tuples, so room for this one is enough.

@@ -3,14 +3,8 @@
 from heirstamps.dots import deed_dots, shelf_with
 from heirstamps.errors import InvalidStrikes
 from heirstamps.histories import check_deed, check_mark
+from heirstamps.lots import is_lot_within
 from heirstamps.standing import standing_behind
-
-
-def _is_lot_within(value, lot):
-    """Whether a value is a lot of some of the members of a lot."""
-    if type(value) is not tuple or not all([type(member) is int and member in lot for member in value]):
-        return False
-    return all([value[at - 1] < value[at] for at in range(1, len(value))])
 
 
 def _check_strikes(standing, value):
@@ -18,7 +12,7 @@ def _check_strikes(standing, value):
     if type(value) is not tuple:
         raise InvalidStrikes(0)
     for index, known in enumerate(standing.known):
-        if index == len(value) or not _is_lot_within(value[index], known):
+        if index == len(value) or not is_lot_within(value[index], known):
             raise InvalidStrikes(index)
     if len(value) > len(standing.known):
         raise InvalidStrikes(len(standing.known))

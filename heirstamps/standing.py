@@ -17,6 +17,14 @@ class Standing(Hearing):
         self.shares = {0: 1}
         self.counts = {0: 0}
 
+    def stamp_at(self, mark):
+        """The stamp of the copy."""
+        return (self.shares[mark], self.counts[mark])
+
+    def stamps(self):
+        """The list of the stamps of the copies that are there, by their marks ascending."""
+        return [self.stamp_at(mark) for mark in sorted(self.shares)]
+
     def do_fork(self, mark):
         """Let a further copy come, with half the share of this one."""
         kept, given = halved(self.shares[mark])
@@ -66,3 +74,14 @@ def standing_behind(history):
     if len(history) > MOST_STEPS:
         raise InvalidHistory(MOST_STEPS)
     return standing
+
+
+def stamps_along(history):
+    """The list that has, behind 0, 1, .. steps, the list of the stamps of all copies; the error of standing_behind."""
+    standing_behind(history)
+    standing = Standing()
+    found = [standing.stamps()]
+    for step in history:
+        standing.do(step)
+        found.append(standing.stamps())
+    return found

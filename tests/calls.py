@@ -1,6 +1,8 @@
 """Each function of the interface with its parameters, and the values with which it must raise the errors of [4]."""
 
-from heirstamps import bits, chains, compared, counts, dots, futures, histories, lost, meetings, shares, shelves
+from heirstamps import (
+    bits, chains, compared, counts, dots, futures, histories, lost, meetings, paper_texts, shares, shelves, sizes,
+)
 from tests.support import chain_counts, chain_share, full_counts, full_share, strange_values
 
 FORK = ("fork", 0)
@@ -112,6 +114,21 @@ CALLS = (
     (lost, "takers", {"crew": CREW, "share": PART}, tuple),
     (lost, "hear_first", {"crew": CREW, "member": 1, "share": PART}, tuple),
     (lost, "taken", {"crew": CREW, "member": 0, "share": PART}, tuple),
+    (sizes, "share_size", {"share": (1, (0, 1))}, int),
+    (sizes, "counts_size", {"counts": (0, 0, (0, 0, 2))}, int),
+    (sizes, "stamp_size", {"stamp": CREW[0]}, int),
+    (sizes, "sizes", {"history": TALE}, list),
+    (sizes, "split_paths", {"history": TALE}, list),
+    (sizes, "least_total", {"count": 3}, int),
+    (sizes, "balanced", {"count": 3}, list),
+    (sizes, "share_total", {"number": 3}, int),
+    (sizes, "nth_share", {"number": 2, "index": 7}, tuple),
+    (sizes, "share_rank", {"share": (1, (0, 1))}, int),
+    (paper_texts, "history_text", {"history": TALE}, str),
+    (paper_texts, "history_told", {"text": "f0,d1,j0.1"}, tuple),
+    (paper_texts, "is_paper", {"value": ("apart", BOTH, 0, 1)}, bool),
+    (paper_texts, "paper_text", {"value": ("apart", BOTH, 0, 1)}, str),
+    (paper_texts, "paper_told", {"text": "a;f0,d0,d1;0;1"}, tuple),
 )
 
 ERRORS = {
@@ -125,7 +142,8 @@ ERRORS = {
     "numbers": ("InvalidNumbers", {}), "other_mark": ("InvalidMark", {}), "size": ("InvalidCount", {}),
     "bits": ("InvalidCount", {}), "dot": ("InvalidDot", {}), "dots": ("InvalidDots", {}),
     "shelf": ("InvalidShelf", {}), "other_shelf": ("InvalidShelf", {}), "strikes": ("InvalidStrikes", {"index": 0}),
-    "crew": ("InvalidCrew", {}), "member": ("InvalidMember", {}),
+    "crew": ("InvalidCrew", {}), "member": ("InvalidMember", {}), "stamp": ("InvalidStamp", {}),
+    "index": ("InvalidCount", {}), "bound": ("InvalidCount", {}), "lot": ("InvalidLot", {}),
 }
 
 MORE_WRONG = {
@@ -133,11 +151,12 @@ MORE_WRONG = {
     "counts": [(), (1, 0), chain_counts(13), full_counts(6, (0, (0, 1, 0), 0)), full_counts(9)],
     "path": [0, 2, "01", (2,), (0, 1, 2), (0, -1), (0, True), ([],), (0,) * 13, (1,) * 40],
     "history": [5, "f0", (("fork", 1),), (("deed", False),), (("lose", 0),), ((),), ("fork", 0)],
-    "mark": [2, 7, -1, (), (0,), 10 ** 89], "count": [0, -1, 7, (), (1,), 10 ** 89],
+    "mark": [2, 7, -1, (), (0,), 10 ** 89], "count": [0, -1, (), (1,), -10 ** 89],
     "text": [5, (), ("0",), "", ",", ")", "+1", "x" * 20000],
     "several": [0, 3, (0,) * 9, (0, (0, 1, 1)), (0, None), (chain_counts(13),), (full_counts(9),), [0, 1]],
     "loose": [(), (0, 1), [0, 1, 1], (0, 0, 0, 0), chain_counts(13), full_counts(9), (0, 1, (0, 0, -1))],
-    "number": [9, -1, 10 ** 89, (2,), ()],
+    "number": [-1, -10 ** 89, (2,), ()], "index": [-1, -10 ** 89, (2,), ()],
+    "stamp": [(), 0, (1,), (1, 0, 0), [1, 0], ((1, 1), 0), (0, (0, 0, 0)), (full_share(10), 0), (0, chain_counts(13))],
     "worths": [(), 0, (1, 2, 3), (0,) * 512, (0,) * 3, [0, 1], (0, -1), (0, None), (1, (0,))],
     "stamps": [(), 0, ((1, 0),) * 9, [(1, 0)], (1, 0), ((1, 0, 0),), ((1, (0, 1, 1)),), ((chain_share(13), 0),)],
     "shares": [(), 0, 1, (0,) * 9, [0, 1], (2,), (0, (1, 1)), (chain_share(13),), (full_share(10),)],
@@ -145,7 +164,8 @@ MORE_WRONG = {
     "plan": [(), (("join", 0, 0),), (("join", 0, 2),), [("join", 0, 1)], (("hear", 0, 1),), ("join", 0, 1), "j0.1",
              (("join", 0, 1), ("join", 0, 1)), (("join", 0, True),)],
     "deed": [3, -1, 10 ** 89, (0,), ()],
-    "rows": [(), ((0, 1), (2,)), ((1,), (0,)), ((1,), (0, 2), ()), ((1,), (0, 2), (2,)), [(1,), (0, 2)], ((1,), [0, 2])],
+    "rows": [(), ((0, 1), (2,)), ((1,), (0,)), ((1,), (0, 2), ()), ((1,), (0, 2), (2,)), [(1,), (0, 2)],
+             ((1,), [0, 2])],
     "numbers": [(), (0,), (0, 3), (2, 0), (0, 0, 0), (0, -1), [0, 2], (0, True), "02"],
     "size": [0, 65, 10 ** 89, (2,), ()], "bits": [0, 5, 10 ** 89, (2,), ()],
     "dot": [(), 1, ((0,), 0), ((0,) * 13, 1), ((2,), 1), ((0,), True), [(0,), 1], ([0], 1), ((0,), 1, 1), ((0,), -1)],
@@ -175,6 +195,9 @@ def is_plain_loose(value):
     return len(value) == 3 and type(value[0]) is int and value[0] >= 0 and all(map(is_plain_loose, value[1:]))
 
 
+# Of the texts that are wrong for these some are right for their first signs; test_paper_texts looks at them.
+TEXTS_TO_THEIR_ENDS = ("history_told", "paper_told")
+
 # Of the strange values these are right for the parameter.
 RIGHT = {
     "path": lambda value: are_integers(value) and len(value) < 13 and set(value) <= {0, 1},
@@ -186,12 +209,16 @@ RIGHT = {
     "shares": lambda value: isinstance(value, tuple) and len(value) in range(1, 9) and all(map(shares.is_share, value)),
     "numbers": lambda value: are_integers(value) and len(value) == 2 and value[0] < 2 and value[1] < 3,
     "dot": lambda value: value == ((0, 0), 1),
+    "stamp": counts.is_stamp,
     # A good entry leads to another index; test_shelves looks at these.
     "strikes": lambda value: value == ((), ()),
 }
 
 
-def wrong_for(parameter):
-    """Values with which the error of this parameter is raised."""
+def wrong_for(parameter, name=""):
+    """Values with which the error of this parameter of the function is raised."""
     right = RIGHT.get(parameter, lambda value: False)
-    return [value for value in strange_values() if not right(value)] + MORE_WRONG[parameter]
+    wrong = [value for value in strange_values() if not right(value)] + MORE_WRONG[parameter]
+    if name in TEXTS_TO_THEIR_ENDS:
+        wrong = [value for value in wrong if not isinstance(value, str)]
+    return wrong

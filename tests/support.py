@@ -1,4 +1,4 @@
-"""What the tests have in common: a plain model by cells, trees of a wanted size, and wrong values.
+"""What the tests have in common: a plain model by cells, trees of a wanted size, calls, and wrong values.
 
 The model tells a share as a list of 2 ** k zeros and ones, and counts as a list of 2 ** k worths,
 one for each path of k halves. It is written from DOC.md alone, so that it can stand against the program.
@@ -6,6 +6,8 @@ one for each path of k halves. It is written from DOC.md alone, so that it can s
 
 from functools import lru_cache
 from itertools import product
+
+from heirstamps.errors import StampError
 
 
 # The model by cells.
@@ -240,6 +242,27 @@ def some_histories():
     plain = ("fork", "fork", "deed", "deed", "deed", "hear", "hear", "join")
     losing = ("fork", "fork", "fork", "deed", "deed", "deed", "hear", "hear", "join", "lose")
     return tuple(some_history(seed, 10 + seed % 50, losing if seed % 2 else plain, 7) for seed in range(120))
+
+
+# Calls.
+
+def error_of(call, *parts, **named):
+    """The error of a call, with its fields; None if it raises none."""
+    try:
+        call(*parts, **named)
+    except StampError as error:
+        return (type(error).__name__, vars(error))
+    return None
+
+
+def do_step(live, step):
+    """Do a live step."""
+    return getattr(live, step[0])(*step[1:])
+
+
+def live_fields(live):
+    """All that can be read of a live history."""
+    return tuple(getattr(live, name) for name in ("history", "start", "marks", "next_mark", "depth"))
 
 
 # Wrong values.

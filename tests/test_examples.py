@@ -11,19 +11,25 @@ from heirstamps.compared import (
     above, bare_path, best_row, covers, gathered, is_loose, least_cover, least_form, least_peak, met, needed, peak,
     put_together, spread,
 )
+from heirstamps.console import Console
 from heirstamps.counts import counts_told, is_within, joined, raised, worth_at
 from heirstamps.dots import (
     deed_by, deeds_told, dot_behind, dot_of, has_dot, is_shelf, least_counts, merged, put, struck_off,
 )
-from heirstamps.errors import InvalidText, NotHeard, NotLost, Overlap, Refused
+from heirstamps.errors import InvalidSteps, InvalidText, NotHeard, NotLost, NotShown, Overlap, Refused
 from heirstamps.futures import are_alike, cover_table, is_parting, least_covers, parting
 from heirstamps.histories import deeds, heard, known_at, marks, stamp_of
+from heirstamps.live import Live, NarrowLive, replay
 from heirstamps.lost import barring, crew_of, hear_first, lost_share, may_take, takeable, taken, takers
 from heirstamps.meetings import (
     fewest_steps, first_meeting, flattest_peak, gathering, is_hear_plan, is_join_plan, knows_all, plan_peak,
 )
+from heirstamps.paper_texts import history_text, history_told, paper_text, paper_told
 from heirstamps.shares import halved, less, owned_paths, share_at, share_told, united
 from heirstamps.shelves import all_struck, held, shelf_of, struck_by
+from heirstamps.sizes import (
+    balanced, counts_size, least_total, nth_share, share_rank, share_size, share_total, sizes, split_paths, stamp_size,
+)
 
 TALE = (("fork", 0), ("deed", 0), ("fork", 1), ("deed", 2), ("hear", 1, 0), ("deed", 1), ("join", 0, 2))
 BOTH = (("fork", 0), ("deed", 0), ("deed", 1))
@@ -212,6 +218,64 @@ class StoreExamples(unittest.TestCase):
         with self.assertRaises(NotLost) as caught:
             takers(crew, (0, 1))
         self.assertEqual(caught.exception.path, (1, 0))
+
+
+class SizeExamples(unittest.TestCase):
+    """Those of sizes."""
+
+    def test_sizes(self):
+        self.assertEqual(sizes(END), [0, 2, 5, 7, 9, 9, 11, 7])
+        self.assertEqual(split_paths(END), [(), (1,)])
+        self.assertEqual([share_size((1, (0, 1))), counts_size((0, 0, (0, 0, 2))), stamp_size(crew_of(END)[0])], [2, 2, 3])
+
+    def test_rows(self):
+        self.assertEqual([least_total(3), share_total(3)], [5, 36])
+        self.assertEqual(balanced(3), [((1, 0), 0), ((0, 1), 0), (0, 1)])
+        self.assertEqual([nth_share(1, 0), nth_share(1, 2), share_rank((1, (0, 1)))], [(0, 1), None, 2])
+
+
+class LiveExamples(unittest.TestCase):
+    """Those of part 7."""
+
+    def test_live(self):
+        live = Live((("fork", 0),))
+        self.assertEqual([live.deed(0), live.fork(1), live.deed(2), live.hear(1, 0)], [0, 2, 1, None])
+        self.assertEqual(live.marks, (0, 1, 2))
+        self.assertEqual(live.stamp(1), ((0, (1, 0)), (0, 1, 0)))
+        self.assertEqual([live.covers((0,), 1), live.covers((1,), 2)], [True, False])
+        self.assertEqual([live.newest(), live.heard(1)], [(0, 1, 2), (0,)])
+        self.assertEqual(live.would(("join", 1, 2)), ((0, 1), ((0, 1), (0, 1, (0, 0, 1)))))
+        self.assertEqual(live.standings(), [(0,), (1,), (2,), (3,), (4,)])
+        self.assertEqual(live.undo(), ("hear", 1, 0))
+        self.assertIs(live.covers((1,), 0), False)
+
+    def test_narrow_and_replay(self):
+        self.assertEqual(NarrowLive((), 1).fork(0), 1)
+        with self.assertRaises(InvalidSteps) as caught:
+            replay((), [("fork", 0), ("deed", 0), ("fork", 1)], bound=1)
+        self.assertEqual(caught.exception.index, 1)
+
+    def test_paper_texts(self):
+        self.assertEqual(history_text((("fork", 0), ("hear", 1, 0))), "f0,h1.0")
+        self.assertEqual(history_told("f0,d1,j0.1"), (("fork", 0), ("deed", 1), ("join", 0, 1)))
+        self.assertEqual(paper_text(("covered", (("fork", 0), ("deed", 0), ("hear", 1, 0)), 0, (1,))), "c;f0,d0,h1.0;0;1")
+        self.assertEqual(paper_told("a;f0,d0,d1;0;1"), ("apart", BOTH, 0, 1))
+        self.assertEqual(paper_told("u;f0,d0;f0;1;0"), ("unlike", BOTH[:2], (("fork", 0),), (1,), 0))
+        for text, count in (("c;f0,d0;0;1", 3), ("c;f0,d2;0;1", 0)):
+            with self.assertRaises(NotShown) as caught:
+                paper_told(text)
+            self.assertEqual(caught.exception.count, count)
+        with self.assertRaises(InvalidText) as caught:
+            history_told("f0,d61")
+        self.assertEqual(caught.exception.index, 5)
+
+    def test_console(self):
+        console = Console()
+        told = console.execute("run open a; fork 0; deed 0; fork 1; deed 2; show; stamp 2; covers 1 0; newest; standings")
+        self.assertEqual(told, "ok; 1; 0; 2; 1; f0,d0,f1,d2; (0,(0,1)) (0,0,(0,0,1)); yes; 0 2; 0 1 2 3 4")
+        commands = ("paper 1", "undo", "join 0 2", "heard 1", "journal")
+        self.assertEqual([console.execute(command) for command in commands],
+                         ["c;f0,d0,f1,d2;1;0", "deed 2", "ok", "none", "open a; fork 0; deed 0; fork 1; join 0 2"])
 
 
 class FartherExamples(unittest.TestCase):

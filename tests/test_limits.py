@@ -3,10 +3,12 @@
 import time
 import unittest
 
-from heirstamps import bits, chains, compared, dots, futures, lost, meetings, shelves
+from heirstamps import bits, chains, compared, dots, futures, lost, meetings, paper_texts, shelves, sizes
+from heirstamps.console import Console
 from heirstamps.counts import is_counts
 from heirstamps.errors import TooMany
 from heirstamps.histories import is_history
+from heirstamps.live import Live, replay
 from heirstamps.shares import is_share
 from tests.support import Chance, cells, counts_of, share_of, tuples_in, worths
 
@@ -61,10 +63,10 @@ def great_history(seed, copies):
 
 class Seconds(unittest.TestCase):
 
-    def look(self, call, *parts):
+    def look(self, call, *parts, **named):
         """See that a call ends in time, and tell its answer."""
         begun = time.monotonic()
-        told = call(*parts)
+        told = call(*parts, **named)
         self.assertLess(time.monotonic() - begun, SECONDS, call.__name__)
         return told
 
@@ -182,6 +184,41 @@ class Seconds(unittest.TestCase):
                     self.look(lost.takeable, crew, member)
                 except TooMany as error:
                     self.assertEqual(error.count, 63)
+
+    def test_shares_of_all_sizes(self):
+        for size in range(64):
+            total = self.look(sizes.share_total, size)
+            share = self.look(sizes.nth_share, size, total - 1)
+            self.assertEqual(self.look(sizes.share_rank, share), total - 1)
+        for seed in range(4):
+            share = great_share(seed)
+            self.assertEqual(self.look(sizes.nth_share, tuples_in(share), self.look(sizes.share_rank, share)), share)
+
+    def test_sixty_live_steps_with_eight_copies(self):
+        for seed in range(3):
+            history = great_history(seed, 8)
+            live = self.look(replay, (), list(history), bound=126)
+            self.assertEqual(live.history, history)
+            numbers = [number for row in self.look(live.standings) for number in row]
+            self.assertEqual(sorted(numbers), list(range(61)))
+            self.look(live.newest)
+            self.look(live.covers, (1, 2, 3, 4, 5, 6, 7), 0)
+            self.look(live.twin)
+            self.look(sizes.sizes, history)
+            self.look(sizes.split_paths, history)
+            text = self.look(paper_texts.history_text, history)
+            self.assertEqual(self.look(paper_texts.history_told, text), history)
+            self.assertEqual(self.look(Live, history).history, history)
+
+    def test_runs_of_sixty_four_commands(self):
+        history = great_history(4, 8)
+        for question in ("standings", "paper 7", "newest", "stamp 3", "covers 0 1 2 3 4 5 6 7", "undo", "twin b", "journal"):
+            console = Console()
+            steps = [" ".join(map(str, step)) for step in history]
+            self.look(console.execute, "run open a; " + "; ".join(steps))
+            for name in "bcdefgh":
+                console.execute(f"twin {name}")
+            self.look(console.execute, "run " + "; ".join([question] * 60))
 
 
 if __name__ == "__main__":

@@ -5,7 +5,7 @@ from itertools import combinations, permutations
 
 from heirstamps.compared import best_row, least_peak, peak, put_together
 from heirstamps.counts import joined
-from heirstamps.errors import InvalidRow, InvalidShare, InvalidStamp, Overlap, StampError, TooMany
+from heirstamps.errors import InvalidRow, InvalidShare, InvalidStamp, Overlap, StampError
 from heirstamps.shares import united
 from tests.support import (
     Chance, all_shares, cells, chain_counts, chain_share, deep, full_counts, full_share, share_of, tuples_in,

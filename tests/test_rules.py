@@ -9,11 +9,11 @@ import unittest
 from itertools import combinations
 
 from heirstamps import (
-    bits, chains, compared, counts, dots, errors, futures, histories, lost, meetings, shares, shelves,
+    bits, chains, compared, counts, dots, errors, futures, histories, lost, meetings, paper_texts, shares, shelves, sizes,
 )
 from tests.calls import BOTH, CALLS, CREW, ERRORS, MORE_WRONG, ROWS, SHELF, STRIKES, TALE, wrong_for
 from tests.support import (
-    chain_counts, chain_share, deep, deep_pair, full_counts, full_share, strange_values, tuples_in,
+    chain_share, deep, deep_pair, full_counts, full_share, strange_values, tuples_in,
 )
 
 
@@ -52,7 +52,7 @@ class Errors(unittest.TestCase):
             for parameter in named:
                 if parameter == "value":
                     continue
-                for value in wrong_for(parameter):
+                for value in wrong_for(parameter, name):
                     with self.subTest(name, parameter=parameter, value=value):
                         told = answer_of(getattr(module, name), **{**named, parameter: value})
                         self.assertEqual(told, ERRORS[parameter])
@@ -60,8 +60,8 @@ class Errors(unittest.TestCase):
     def test_the_first_of_two(self):
         for module, name, named, _ in CALLS:
             for first, second in combinations(named, 2):
-                wrong = wrong_for(second) if second != "value" else strange_values()
-                for at, value in enumerate(wrong_for(first)):
+                wrong = wrong_for(second, name) if second != "value" else strange_values()
+                for at, value in enumerate(wrong_for(first, name)):
                     for other in wrong[at % 7::7]:
                         with self.subTest(name, value=value, other=other):
                             told = answer_of(getattr(module, name), **{**named, first: value, second: other})
@@ -107,6 +107,7 @@ class Errors(unittest.TestCase):
                 (shelves.shelf_of, ((("deed", 0),) * 41, ((),) * 41, 7), "InvalidMark"),
                 (shelves.struck_by, (TALE, STRIKES, 2, 3), "InvalidMark"),
                 (lost.taken, (CREW, 2, 1), "InvalidMember"), (lost.hear_first, (CREW, 0, (1, 1)), "InvalidShare"),
+                (sizes.nth_share, (64, -1), "InvalidCount"), (sizes.balanced, (0,), "InvalidCount"),
                 (lost.takers, (CREW, 2), "InvalidShare"), (lost.lost_share, (((1, 0),) * 2,), "InvalidCrew")):
             with self.subTest(call.__name__, parts=parts):
                 self.assertEqual(answer_of(call, *parts)[0], error)
@@ -132,7 +133,12 @@ class Errors(unittest.TestCase):
                                     (dots, "put", (True, SHELF, ())), (dots, "merged", ((True, ()), SHELF)),
                                     (shelves, "held", (TALE, ((False,), (), ()), 0)),
                                     (lost, "takeable", (CREW, True)), (lost, "lost_share", (((True, 0),),)),
-                                    (lost, "takers", (CREW, False))):
+                                    (lost, "takers", (CREW, False)),
+                                    (sizes, "stamp_size", ((True, 0),)), (sizes, "balanced", (True,)),
+                                    (sizes, "nth_share", (True, 0)), (sizes, "nth_share", (1, False)),
+                                    (sizes, "share_total", (False,)),
+                                    (paper_texts, "paper_text", (("covered", (), False, (0,)),)),
+                                    (paper_texts, "paper_text", (("apart", BOTH, False, True),))):
             with self.subTest(name, parts=parts):
                 self.assertNotEqual(answer_of(getattr(module, name), *parts)[0], "told")
 
@@ -142,14 +148,15 @@ class Errors(unittest.TestCase):
         values += [named["value"] for _, _, named, _ in CALLS if "value" in named]
         looked = 0
         for module, name, named, _ in CALLS:
-            if "value" not in named:
+            # What paper_text raises of a value stands in its point.
+            if "value" not in named or name == "paper_text":
                 continue
             looked += 1
             for value in values:
                 with self.subTest(name, value=value):
                     told = getattr(module, name)(**{**named, "value": value})
                     self.assertIs(type(told), bool)
-        self.assertEqual(looked, 14)
+        self.assertEqual(looked, 15)
 
     def test_strange_values_are_nothing(self):
         for value in strange_values():
@@ -166,6 +173,7 @@ class Errors(unittest.TestCase):
                 self.assertIs(dots.is_dot(value), value == ((0, 0), 1))
                 self.assertIs(dots.is_shelf(value), False)
                 self.assertIs(lost.is_crew(value), False)
+                self.assertIs(paper_texts.is_paper(value), False)
 
 
 class Arguments(unittest.TestCase):
@@ -174,7 +182,7 @@ class Arguments(unittest.TestCase):
         for module, name, named, _ in CALLS:
             for parameter in named:
                 right = [named[parameter]]
-                for value in right + (strange_values() if parameter == "value" else wrong_for(parameter)):
+                for value in right + (strange_values() if parameter == "value" else wrong_for(parameter, name)):
                     with self.subTest(name, parameter=parameter, value=value):
                         ahead = copy.deepcopy(value)
                         answer_of(getattr(module, name), **{**named, parameter: value})
