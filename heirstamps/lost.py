@@ -134,7 +134,7 @@ def _gather_leaders(several, share, found):
     """Make a key of the mask of those of the several that have the greatest worth, of each part of a share."""
     if share == 0:
         return
-    if share == 1 and all([type(counts) is int for counts in several]):
+    if all([type(counts) is int for counts in several]):
         found[mask_of([index for index, counts in enumerate(several) if counts == max(several)])] = True
         return
     parts = [halves(counts) for counts in several]

@@ -92,6 +92,17 @@ class FalsePairs(unittest.TestCase):
         self.assertEqual(least_size(history, 1), 31)
 
 
+    def alone(self, count, deed):
+        """A history of so many deeds, this one of which another copy has done."""
+        return (("fork", 0),) + tuple(("deed", int(at == deed)) for at in range(count))
+
+    def test_the_last_size(self):
+        self.assertEqual(least_size(self.alone(46, 36), 3), 64)
+        self.assertIsNone(least_size(self.alone(43, 42), 2))
+        one, other = marked([42], 65, 2), marked(range(42), 65, 2)
+        self.assertFalse(one <= other or other <= one)
+
+
 class Wrong(unittest.TestCase):
 
     def test_sizes_and_bits(self):
@@ -117,6 +128,7 @@ class Wrong(unittest.TestCase):
         self.assertRaises(InvalidMark, word_of, TALE, 2, None, None)
         self.assertRaises(InvalidMark, seems, TALE, 2, None, None, None)
         self.assertRaises(InvalidMark, seems, TALE, 0, 2, 0, 0)
+        self.assertRaises(InvalidMark, seems, TALE, 2, 0, 0, 0)
         self.assertRaises(InvalidHistory, false_pairs, [], 0, 0)
         self.assertRaises(InvalidHistory, least_size, [], 0)
 
@@ -132,7 +144,7 @@ class E6(unittest.TestCase):
                             self.assertIs(seems(history, one, other, size, bits), True)
 
     def test_as_many_as_deeds(self):
-        for history, _ in some_histories()[::10]:
+        for history, _ in some_histories()[::11]:
             count = len(deeds(history))
             for size in range(max(count, 1), 65, 5):
                 self.assertEqual(false_pairs(history, size, 1), [])

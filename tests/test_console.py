@@ -5,8 +5,8 @@ import unittest
 from heirstamps.console import Console
 from heirstamps.counts import counts_text
 from heirstamps.errors import (
-    InvalidCommand, InvalidCount, InvalidLot, InvalidMark, NoSpan, NothingToUndo, NotNarrow, NotReady, Refused, StampError,
-    TooMany,
+    InvalidCommand, InvalidCount, InvalidLot, InvalidMark, NoSpan, NothingToUndo, NotNarrow, NotReady, Refused,
+    StampError, TooMany,
 )
 from heirstamps.futures import least_covers
 from heirstamps.live import Live, replay
@@ -14,8 +14,8 @@ from heirstamps.paper_texts import history_told, paper_text, paper_told
 from heirstamps.shares import share_text
 from tests.support import Chance, error_of, strange_values
 
-QUESTIONS = ("show", "marks", "newest", "standings", "journal", "heard 0", "heard 1", "stamp 0", "stamp 1", "covers 0 1",
-             "covers 1 0", "paper 0", "paper 1", "heard 2", "covers 2 0 1")
+QUESTIONS = ("show", "marks", "newest", "standings", "journal", "heard 0", "heard 1", "stamp 0", "stamp 1",
+             "covers 0 1", "covers 1 0", "paper 0", "paper 1", "heard 2", "covers 2 0 1")
 
 
 def console_with(*commands):
@@ -46,8 +46,8 @@ class Names(unittest.TestCase):
 
     def test_open_and_use(self):
         console = Console()
-        self.assertEqual([console.execute(command) for command in ("open a", "fork 0", "open b", "show", "use a", "show")],
-                         ["ok", "1", "ok", "none", "ok", "f0"])
+        told = [console.execute(command) for command in ("open a", "fork 0", "open b", "show", "use a", "show")]
+        self.assertEqual(told, ["ok", "1", "ok", "none", "ok", "f0"])
 
     def test_in_the_place_of_another_one(self):
         console = console_with("open a", "fork 0", "open b", "open a")
@@ -113,9 +113,9 @@ class Names(unittest.TestCase):
 class NotReadyErrors(unittest.TestCase):
 
     def test_no_choice(self):
-        commands = ["twin a", "same a", "fork 0", "deed 0", "hear 0 1", "join 0 1", "lose 0", "undo", "begin", "keep", "drop",
-                    "show", "marks", "newest", "heard 0", "stamp 0", "covers 0 1", "standings", "where", "paper 0", "journal",
-                    "use a", "forget a"]
+        commands = ["twin a", "same a", "fork 0", "deed 0", "hear 0 1", "join 0 1", "lose 0", "undo", "begin", "keep",
+                    "drop", "show", "marks", "newest", "heard 0", "stamp 0", "covers 0 1", "standings", "where",
+                    "paper 0", "journal", "use a", "forget a"]
         for command in commands:
             self.assertRaises(NotReady, Console().execute, command)
             self.assertRaises(NotReady, Console().execute, "run " + command)
@@ -141,16 +141,16 @@ class Steps(unittest.TestCase):
 
     def test_spans(self):
         console = console_with("open a")
-        told = [console.execute(command) for command in ("begin", "fork 0", "begin", "deed 1", "where", "drop", "where", "keep",
-                                                         "where", "undo", "where")]
+        told = [console.execute(command) for command in ("begin", "fork 0", "begin", "deed 1", "where", "drop",
+                                                         "where", "keep", "where", "undo", "where")]
         self.assertEqual(told, ["ok", "1", "ok", "0", "2 2 2", "ok", "2 1 1", "ok", "2 1 0", "fork 0", "1 0 0"])
 
     def test_errors_of_methods(self):
         console = console_with("open a", "fork 0")
         for command, error in (("fork 2", "InvalidMark"), ("hear 0 0", "InvalidMark"), ("deed 9999", "InvalidMark"),
                                ("heard 2", "InvalidMark"), ("stamp 2", "InvalidMark"), ("paper 2", "InvalidMark"),
-                               ("covers 2 0", "InvalidMark"), ("covers 0 2", "InvalidLot"), ("covers 2 2", "InvalidLot"),
-                               ("keep", "NoSpan"), ("drop", "NoSpan")):
+                               ("covers 2 0", "InvalidMark"), ("covers 0 2", "InvalidLot"),
+                               ("covers 2 2", "InvalidLot"), ("keep", "NoSpan"), ("drop", "NoSpan")):
             self.assertEqual(error_of(console.execute, command), (error, {}))
         console.execute("undo")
         self.assertRaises(NothingToUndo, console.execute, "undo")
@@ -165,15 +165,18 @@ class Questions(unittest.TestCase):
 
     def test_small_ones(self):
         console = console_with("run open a; fork 0; deed 0; fork 1; deed 2; hear 1 0")
-        self.assertEqual(answers(console, ("show", "marks", "newest", "heard 0", "heard 1", "heard 2", "stamp 1", "where")),
+        self.assertEqual(answers(console, ("show", "marks", "newest", "heard 0", "heard 1", "heard 2", "stamp 1",
+                                           "where")),
                          ["f0,d0,f1,d2,h1.0", "0 1 2", "0 1 2", "0", "0", "1", "(0,(1,0)) (0,1,0)", "3 5 0"])
-        self.assertEqual(answers(console, ("standings", "paper 1", "journal", "covers 1 0", "covers 0 1", "covers 2 0 1")),
+        self.assertEqual(answers(console, ("standings", "paper 1", "journal", "covers 1 0", "covers 0 1",
+                                           "covers 2 0 1")),
                          ["0 1 2 3 4 5", "c;f0,d0,f1,d2,h1.0;1;0",
                           "open a; fork 0; deed 0; fork 1; deed 2; hear 1 0", "yes", "yes", "no"])
 
     def test_none_wherever_it_is_empty(self):
         console = console_with("open a")
-        self.assertEqual(answers(console, ("show", "heard 0", "marks", "newest", "standings", "where", "stamp 0", "journal")),
+        self.assertEqual(answers(console, ("show", "heard 0", "marks", "newest", "standings", "where", "stamp 0",
+                                           "journal")),
                          ["none", "none", "0", "0", "0", "1 0 0", "1 0", "open a"])
         self.assertEqual(console.execute("run show; heard 0; show"), "none; none; none")
 
@@ -183,8 +186,8 @@ class Questions(unittest.TestCase):
 
     def test_covers_in_any_sequence(self):
         console = console_with("run open a; fork 0; fork 1; deed 0; deed 1; deed 2; hear 2 1; hear 2 0")
-        self.assertEqual(answers(console, ("covers 2 0 1", "covers 1 2", "covers 1 2 2 2", "covers 1 2 0 1 0 2", "covers 1 0",
-                                           "covers 2 1 0 2", "covers 2 1 1 0")),
+        self.assertEqual(answers(console, ("covers 2 0 1", "covers 1 2", "covers 1 2 2 2", "covers 1 2 0 1 0 2",
+                                           "covers 1 0", "covers 2 1 0 2", "covers 2 1 1 0")),
                          ["no", "yes", "yes", "yes", "no", "yes", "no"])
 
     def test_as_the_methods_tell(self):
@@ -200,7 +203,8 @@ class Questions(unittest.TestCase):
             self.assertEqual(console.execute("marks"), " ".join(map(str, live.marks)))
             if live.history:
                 self.assertEqual(history_told(console.execute("show")), live.history)
-            self.assertEqual(console.execute("standings"), " ".join("=".join(map(str, row)) for row in live.standings()))
+            self.assertEqual(console.execute("standings"),
+                             " ".join("=".join(map(str, row)) for row in live.standings()))
             for mark in live.marks:
                 share, counts = live.stamp(mark)
                 self.assertEqual(console.execute(f"stamp {mark}"), share_text(share) + " " + counts_text(counts))
@@ -220,13 +224,15 @@ class Runs(unittest.TestCase):
         self.assertEqual(console.execute("show"), "none")
 
     def test_all_of_it_is_taken_back(self):
-        for last, error in (("fork 9", "InvalidMark"), ("keep", "NoSpan"), ("use zz", "NotReady"), ("narrow a 0", "InvalidCount"),
-                            ("heard 9", "InvalidMark")):
-            console = console_with("open b", "fork 0", "begin", "deed 0", "begin", "open a", "deed 0", "begin", "fork 0")
+        for last, error in (("fork 9", "InvalidMark"), ("keep", "NoSpan"), ("use zz", "NotReady"),
+                            ("narrow a 0", "InvalidCount"), ("heard 9", "InvalidMark")):
+            console = console_with("open b", "fork 0", "begin", "deed 0", "begin", "open a", "deed 0", "begin",
+                                   "fork 0")
             told = answers(console, QUESTIONS + ("where",))
-            for run in ("fork 0; undo; undo; drop; deed 0; begin; begin; begin; begin", "open c; fork 0; open a; fork 0",
-                        "forget b; forget a; open b", "use b; drop; drop; undo; open d; use b", "narrow b 5; fork 0; twin a",
-                        "twin b; use b; undo", "drop; undo"):
+            for run in ("fork 0; undo; undo; drop; deed 0; begin; begin; begin; begin",
+                        "open c; fork 0; open a; fork 0", "forget b; forget a; open b",
+                        "use b; drop; drop; undo; open d; use b", "narrow b 5; fork 0; twin a", "twin b; use b; undo",
+                        "drop; undo"):
                 command = f"run {run}; {last}" if last != "keep" else f"run {run}; open x; keep"
                 self.assertEqual(error_of(console.execute, command), (error, {}))
                 self.assertEqual(answers(console, QUESTIONS + ("where",)), told)
@@ -235,7 +241,8 @@ class Runs(unittest.TestCase):
                 console.execute("use b")
                 self.assertEqual(answers(console, ("where", "show")), ["2 2 2", "f0,d0"])
                 console.execute("use a")
-            self.assertEqual([console.execute("undo"), error_of(console.execute, "undo")], ["fork 0", ("NothingToUndo", {})])
+            self.assertEqual([console.execute("undo"), error_of(console.execute, "undo")],
+                             ["fork 0", ("NothingToUndo", {})])
             console.execute("run keep; use b; drop; drop")
             self.assertEqual(console.execute("run show; where"), "f0; 2 1 0")
 
@@ -259,7 +266,8 @@ class Runs(unittest.TestCase):
 
     def test_sixty_four_commands(self):
         console = Console()
-        told = console.execute("run open a; " + "; ".join(["fork 0"] * 7 + ["deed 3"] * 53) + "; standings; show; where")
+        steps = ["fork 0"] * 7 + ["deed 3"] * 53
+        told = console.execute("run " + "; ".join(["open a"] + steps + ["standings", "show", "where"]))
         self.assertEqual(told.split("; ")[:9], ["ok", "1", "2", "3", "4", "5", "6", "7", "0"])
         self.assertEqual(told.split("; ")[-1], "8 60 0")
         self.assertEqual(len(console.execute("run " + "; ".join(["standings"] * 64)).split("; ")), 64)
@@ -269,19 +277,21 @@ class Forms(unittest.TestCase):
 
     def test_commands_that_are_none(self):
         console = console_with("open a", "fork 0")
-        for command in ("", " ", "  ", "show ", " show", "show  ", "fork  0", "fork 0 ", " fork 0", "fork\t0", "fork 0\n", "show\t",
-                        "Show", "SHOW", "shows", "sho", "fork", "fork 0 1", "fork a", "fork -1", "fork +1", "fork 00", "fork 01",
-                        "fork 0000", "fork 12345", "fork 10000", "fork 0.", "fork ,", "hear 0", "hear 0 1 2", "hear 0,1",
-                        "join 0", "join 0  1", "lose", "lose 0 0", "deed", "undo 1", "begin a", "keep 0", "drop ;", "show;",
-                        "open", "open ", "open A", "open abcdefghi", "open a1", "open a b", "open a_", "open 1", "open a;",
-                        "narrow a", "narrow 3", "narrow 3 a", "narrow a 03", "narrow a b", "narrow a 12345", "narrow a 1 1",
-                        "use", "use 0", "use a a", "twin", "twin A", "forget", "same", "same 1", "covers", "covers 0",
-                        "covers 0 a", "covers 0 1 ", "covers  0 1", "covers 0 01", "covers a 0 1", "heard", "heard a",
-                        "heard 0 1", "stamp", "paper", "paper 0 1", "journal a", "where 0", "standings 1", "marks 0", "newest 0",
-                        "show; marks", "show;marks", "would 0", "replay", "help", "run", "run ", "run  show", "run show ",
-                        "run ; show", "run show; ", "run show;", "run show;marks", "run show;  marks", "run show ; marks",
-                        "run run show", "run show; run marks", "run show; run", "run; show", "runs show", "run\tshow",
-                        "run show;; marks", " run show", "run show\n", "x" * 20000, "run " * 5000, "fork \u0660"):
+        for command in ("", " ", "  ", "show ", " show", "show  ", "fork  0", "fork 0 ", " fork 0", "fork\t0",
+                        "fork 0\n", "show\t", "Show", "SHOW", "shows", "sho", "fork", "fork 0 1", "fork a", "fork -1",
+                        "fork +1", "fork 00", "fork 01", "fork 0000", "fork 12345", "fork 10000", "fork 0.", "fork ,",
+                        "hear 0", "hear 0 1 2", "hear 0,1", "join 0", "join 0  1", "lose", "lose 0 0", "deed",
+                        "undo 1", "begin a", "keep 0", "drop ;", "show;", "open", "open ", "open A", "open abcdefghi",
+                        "open a1", "open a b", "open a_", "open 1", "open a;", "narrow a", "narrow 3", "narrow 3 a",
+                        "narrow a 03", "narrow a b", "narrow a 12345", "narrow a 1 1", "use", "use 0", "use a a",
+                        "twin", "twin A", "forget", "same", "same 1", "covers", "covers 0", "covers 0 a",
+                        "covers 0 1 ", "covers  0 1", "covers 0 01", "covers a 0 1", "heard", "heard a", "heard 0 1",
+                        "stamp", "paper", "paper 0 1", "journal a", "where 0", "standings 1", "marks 0", "newest 0",
+                        "show; marks", "show;marks", "would 0", "replay", "help", "run", "run ", "run  show",
+                        "run show ", "run ; show", "run show; ", "run show;", "run show;marks", "run show;  marks",
+                        "run show ; marks", "run run show", "run show; run marks", "run show; run", "run; show",
+                        "runs show", "run\tshow", "run show;; marks", " run show", "run show\n", "x" * 20000,
+                        "run " * 5000, "fork \u0660"):
             with self.subTest(command):
                 self.assertRaises(InvalidCommand, console.execute, command)
                 self.assertRaises(InvalidCommand, Console().execute, command)
@@ -323,7 +333,8 @@ class K3(unittest.TestCase):
             first = chance.one_of(("open a", "narrow a 6", "open b"))
             console = console_with(first)
             for _ in range(20):
-                word = chance.one_of(("fork", "deed", "hear", "join", "lose", "undo", "begin", "drop", "keep", "twin a"))
+                word = chance.one_of(("fork", "deed", "hear", "join", "lose", "undo", "begin", "drop", "keep",
+                                      "twin a"))
                 many = {"hear": 2, "join": 2, "fork": 1, "deed": 1, "lose": 1}.get(word, 0)
                 error_of(console.execute, " ".join([word] + [str(chance.below(3)) for _ in range(many)]))
             journal = console.execute("journal")

@@ -208,6 +208,7 @@ class DeedsByDots(unittest.TestCase):
         self.assertRaises(InvalidDot, deed_by, TALE, ((), 0))
         self.assertRaises(InvalidHistory, deeds_told, None, None)
         self.assertRaises(InvalidCounts, deeds_told, TALE, (0, 0, 0))
+        self.assertRaises(InvalidCounts, deeds_told, (), None)
 
 
 if __name__ == "__main__":

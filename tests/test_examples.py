@@ -226,7 +226,8 @@ class SizeExamples(unittest.TestCase):
     def test_sizes(self):
         self.assertEqual(sizes(END), [0, 2, 5, 7, 9, 9, 11, 7])
         self.assertEqual(split_paths(END), [(), (1,)])
-        self.assertEqual([share_size((1, (0, 1))), counts_size((0, 0, (0, 0, 2))), stamp_size(crew_of(END)[0])], [2, 2, 3])
+        self.assertEqual([share_size((1, (0, 1))), counts_size((0, 0, (0, 0, 2))), stamp_size(crew_of(END)[0])],
+                         [2, 2, 3])
 
     def test_rows(self):
         self.assertEqual([least_total(3), share_total(3)], [5, 36])
@@ -258,7 +259,8 @@ class LiveExamples(unittest.TestCase):
     def test_paper_texts(self):
         self.assertEqual(history_text((("fork", 0), ("hear", 1, 0))), "f0,h1.0")
         self.assertEqual(history_told("f0,d1,j0.1"), (("fork", 0), ("deed", 1), ("join", 0, 1)))
-        self.assertEqual(paper_text(("covered", (("fork", 0), ("deed", 0), ("hear", 1, 0)), 0, (1,))), "c;f0,d0,h1.0;0;1")
+        self.assertEqual(paper_text(("covered", (("fork", 0), ("deed", 0), ("hear", 1, 0)), 0, (1,))),
+                         "c;f0,d0,h1.0;0;1")
         self.assertEqual(paper_told("a;f0,d0,d1;0;1"), ("apart", BOTH, 0, 1))
         self.assertEqual(paper_told("u;f0,d0;f0;1;0"), ("unlike", BOTH[:2], (("fork", 0),), (1,), 0))
         for text, count in (("c;f0,d0;0;1", 3), ("c;f0,d2;0;1", 0)):
@@ -271,7 +273,8 @@ class LiveExamples(unittest.TestCase):
 
     def test_console(self):
         console = Console()
-        told = console.execute("run open a; fork 0; deed 0; fork 1; deed 2; show; stamp 2; covers 1 0; newest; standings")
+        told = console.execute("run open a; fork 0; deed 0; fork 1; deed 2; "
+                               "show; stamp 2; covers 1 0; newest; standings")
         self.assertEqual(told, "ok; 1; 0; 2; 1; f0,d0,f1,d2; (0,(0,1)) (0,0,(0,0,1)); yes; 0 2; 0 1 2 3 4")
         commands = ("paper 1", "undo", "join 0 2", "heard 1", "journal")
         self.assertEqual([console.execute(command) for command in commands],

@@ -31,7 +31,7 @@ def some_strikes(model, seed, often=3):
 class F1(unittest.TestCase):
 
     def test_dots_of_unlike_deeds(self):
-        for history, _ in some_histories()[::2] + tuple(small_histories()):
+        for history, _ in some_histories()[::3] + tuple(small_histories()):
             count = len(deeds(history))
             dots = [dot_of(history, deed) for deed in range(count)]
             self.assertEqual(len(set(dots)), count)
@@ -102,7 +102,7 @@ class F2(unittest.TestCase):
 class F3(unittest.TestCase):
 
     def test_all_struck(self):
-        for history, model in some_histories()[::2]:
+        for history, model in some_histories()[::3]:
             strikes = all_struck(history)
             for mark in marks(history):
                 lot = set(heard(history, mark))
@@ -306,7 +306,7 @@ class G3(unittest.TestCase):
 class G4(unittest.TestCase):
 
     def test_nothing_lost(self):
-        for history, _ in some_histories()[::4]:
+        for history, _ in some_histories()[::5]:
             if not any(step[0] == "lose" for step in history):
                 crew = crew_of(history)
                 self.assertEqual(lost_share(crew), 0)

@@ -212,7 +212,8 @@ class Seconds(unittest.TestCase):
 
     def test_runs_of_sixty_four_commands(self):
         history = great_history(4, 8)
-        for question in ("standings", "paper 7", "newest", "stamp 3", "covers 0 1 2 3 4 5 6 7", "undo", "twin b", "journal"):
+        for question in ("standings", "paper 7", "newest", "stamp 3", "covers 0 1 2 3 4 5 6 7", "undo", "twin b",
+                         "journal"):
             console = Console()
             steps = [" ".join(map(str, step)) for step in history]
             self.look(console.execute, "run open a; " + "; ".join(steps))

@@ -49,7 +49,7 @@ class Steps(unittest.TestCase):
         self.assertEqual(live.start, TALE)
 
     def test_fields_at_all_times(self):
-        for history, _ in some_histories()[::6]:
+        for history, _ in some_histories()[::7]:
             for cut in (0, len(history) // 2):
                 live = Live(history[:cut])
                 for at, step in enumerate(history[cut:]):
@@ -162,7 +162,7 @@ class Questions(unittest.TestCase):
         self.assertIs(Live(()).covers((0,), 0), True)
 
     def test_covers_and_newest(self):
-        for history, model in some_histories()[::8]:
+        for history, model in some_histories()[::9]:
             live = Live(history)
             counts = {mark: live.stamp(mark)[1] for mark in live.marks}
             for size in range(3):
@@ -189,7 +189,8 @@ class Questions(unittest.TestCase):
 
     def test_lots(self):
         live = Live((FORK, FORK, ("lose", 1)))
-        for lot in (None, 0, [0], (1,), (0, 1), (2, 0), (0, 0), (True,), (False,), ("0",), ((0,),), (0, None), 10 ** 89):
+        for lot in (None, 0, [0], (1,), (0, 1), (2, 0), (0, 0), (True,), (False,), ("0",), ((0,),), (0, None),
+                    10 ** 89):
             self.assertRaises(InvalidLot, live.covers, lot, None)
         for value in strange_values():
             if value != (0, 2):

@@ -16,7 +16,7 @@ TALE = (FORK, ("deed", 0), ("fork", 1), ("deed", 2), ("hear", 1, 0), ("deed", 1)
 class Undo(unittest.TestCase):
 
     def test_step_by_step(self):
-        for history, _ in some_histories()[::10]:
+        for history, _ in some_histories()[::11]:
             cut = len(history) // 3
             live = Live(history[:cut])
             rows = [live_fields(live)]

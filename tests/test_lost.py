@@ -74,7 +74,7 @@ class IsCrew(unittest.TestCase):
     def test_crew_of(self):
         self.assertEqual(crew_of(()), ((1, 0),))
         self.assertEqual(crew_of(END), CREW)
-        for history, _ in some_histories()[::4]:
+        for history, _ in some_histories()[::5]:
             told = crew_of(history)
             self.assertEqual(told, tuple(stamp_of(history, mark) for mark in marks(history)))
             self.assertIs(is_crew(told), True)

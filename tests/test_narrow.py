@@ -186,6 +186,7 @@ class Replay(unittest.TestCase):
         self.assertIs(type(live), NarrowLive)
         self.assertEqual((live.start, live.history, live.bound), (TALE[:2], TALE, 126))
         self.assertEqual(replay(TALE, []), Live(TALE))
+        self.assertEqual(replay((FORK,), [("lose", 0), ("deed", 1)]).history, (FORK, ("lose", 0), ("deed", 1)))
 
     def test_no_list(self):
         for steps in (None, (), tuple(TALE), "f0", 0, True, ("fork", 0), {}):
@@ -227,7 +228,7 @@ class Replay(unittest.TestCase):
         self.assertEqual(len(live.history), 8)
 
     def test_against_histories(self):
-        for history, _ in some_histories()[::6]:
+        for history, _ in some_histories()[::7]:
             cut = len(history) // 2
             live = replay(history[:cut], list(history[cut:]))
             self.assertEqual(live.history, history)

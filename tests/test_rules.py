@@ -9,7 +9,8 @@ import unittest
 from itertools import combinations
 
 from heirstamps import (
-    bits, chains, compared, counts, dots, errors, futures, histories, lost, meetings, paper_texts, shares, shelves, sizes,
+    bits, chains, compared, counts, dots, errors, futures, histories, lost, meetings, paper_texts, shares, shelves,
+    sizes,
 )
 from tests.calls import BOTH, CALLS, CREW, ERRORS, MORE_WRONG, ROWS, SHELF, STRIKES, TALE, wrong_for
 from tests.support import (

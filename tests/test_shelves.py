@@ -99,7 +99,7 @@ class AllStruck(unittest.TestCase):
         self.assertEqual(all_struck((("deed", 0),) * 3), ((), (0,), (0, 1)))
 
     def test_against_what_was_known(self):
-        for history, model in some_histories()[::4]:
+        for history, model in some_histories()[::5]:
             aim = tuple(known[:-1] for known in model.known)
             self.assertEqual(all_struck(history), aim)
             for mark in marks(history):

@@ -45,7 +45,8 @@ def depth(tree):
 class Sizes(unittest.TestCase):
 
     def test_small_ones(self):
-        self.assertEqual([share_size(share) for share in (0, 1, (1, 0), (1, (0, 1)), ((1, 0), (0, 1)))], [0, 0, 1, 2, 3])
+        self.assertEqual([share_size(share) for share in (0, 1, (1, 0), (1, (0, 1)), ((1, 0), (0, 1)))],
+                         [0, 0, 1, 2, 3])
         self.assertEqual([counts_size(counts) for counts in (0, 7, (0, 1, 0), (0, 0, (0, 0, 2)))], [0, 0, 1, 2])
         self.assertEqual([stamp_size(stamp) for stamp in ((1, 0), ((1, 0), 5), ((1, 0), (0, 0, 1)), (1, (0, 1, 0)))],
                          [0, 1, 2, 1])
@@ -82,7 +83,7 @@ class Histories(unittest.TestCase):
         self.assertEqual(sizes((("deed", 0),) * 60), [0] * 61)
 
     def test_against_the_model(self):
-        for history, _ in some_histories()[::4]:
+        for history, _ in some_histories()[::5]:
             model = Model(7)
             totals, paths = [0], set()
             for step in history:

@@ -8,8 +8,8 @@ import unittest
 from itertools import combinations
 
 from heirstamps import (
-    bits, chains, compared, console, counts, dots, errors, futures, histories, live, lost, meetings, paper_texts, shares,
-    shelves, sizes,
+    bits, chains, compared, console, counts, dots, errors, futures, histories, live, lost, meetings, paper_texts,
+    shares, shelves, sizes,
 )
 from heirstamps.console import Console
 from heirstamps.live import Live, NarrowLive, replay
@@ -20,8 +20,8 @@ from tests.support import (
 
 FORK = ("fork", 0)
 
-LIVE_METHODS = ("fork", "deed", "hear", "join", "lose", "stamp", "heard", "covers", "newest", "standings", "would", "undo",
-                "begin", "keep", "drop", "twin", "__eq__", "__init__")
+LIVE_METHODS = ("fork", "deed", "hear", "join", "lose", "stamp", "heard", "covers", "newest", "standings", "would",
+                "undo", "begin", "keep", "drop", "twin", "__eq__", "__init__")
 NARROW_METHODS = ("fork", "deed", "hear", "join", "lose", "would", "twin", "__eq__", "__init__")
 
 INTERFACE = {
@@ -53,7 +53,8 @@ RAISED = (
     ("InvalidCount", sizes.nth_share, (1, -1), {}), ("InvalidLoose", compared.least_form, ((0, 1),), {}),
     ("InvalidWorths", compared.gathered, ((1, 2, 3),), {}), ("InvalidRow", compared.peak, ((1, 0), (0,)), {}),
     ("InvalidPlan", meetings.plan_peak, (BOTH, ()), {}), ("InvalidDeed", dots.dot_of, (TALE, 3), {}),
-    ("InvalidRows", chains.row_counts, (TALE, (), 0), {}), ("InvalidNumbers", chains.deeds_by, (TALE, ROWS, (2, 0)), {}),
+    ("InvalidRows", chains.row_counts, (TALE, (), 0), {}),
+    ("InvalidNumbers", chains.deeds_by, (TALE, ROWS, (2, 0)), {}),
     ("InvalidDot", dots.deed_by, (TALE, ((), 0)), {}), ("InvalidDots", dots.put, (1, SHELF, (((), 1),)), {}),
     ("InvalidShelf", dots.merged, (SHELF, (0, (((), 1),))), {}), ("InvalidCrew", lost.lost_share, ((),), {}),
     ("InvalidMember", lost.takeable, (CREW, 2), {}), ("InvalidPaper", paper_texts.paper_text, ((),), {}),
@@ -66,7 +67,8 @@ RAISED = (
     ("TooMany", counts.raised, (chain_share(7), full_counts(6)), {"count": 63}),
     ("NotShown", paper_texts.paper_told, ("c;f0,d0;0;1",), {"count": 3}),
     ("Overlap", shares.united, ((1, 0), ((0, 1), 1)), {"path": (0, 1)}),
-    ("NotLost", lost.takers, (CREW, (0, 1)), {"path": (1, 0)}), ("NotHeard", lost.taken, (CREW, 1, PART), {"member": 0}),
+    ("NotLost", lost.takers, (CREW, (0, 1)), {"path": (1, 0)}),
+    ("NotHeard", lost.taken, (CREW, 1, PART), {"member": 0}),
     ("NotNarrow", NarrowLive((FORK,), 1).deed, (0,), {"lot": (0,)}),
 )
 
@@ -168,9 +170,11 @@ class SameAnswers(unittest.TestCase):
         self.assertRaises(errors.NotReady, second.execute, "use a")
 
     def test_another_process(self):
-        commands = ["run open a; fork 0; deed 0; fork 1; deed 2; hear 1 0", "run show; stamp 1; newest; standings; paper 1",
+        commands = ["run open a; fork 0; deed 0; fork 1; deed 2; hear 1 0",
+                    "run show; stamp 1; newest; standings; paper 1",
                     "run twin b; undo; same b; journal; covers 1 0 2; where"]
-        program = f"from heirstamps.console import Console\nc = Console()\nfor line in {commands!r}: print(c.execute(line))"
+        program = "from heirstamps.console import Console\nconsole = Console()\n"
+        program += f"for command in {commands!r}: print(console.execute(command))"
         stood = Console()
         here = "".join(stood.execute(command) + "\n" for command in commands)
         folder = os.path.dirname(os.path.dirname(os.path.abspath(shares.__file__)))
@@ -215,7 +219,7 @@ class AnotherSequence(unittest.TestCase):
 class J1(unittest.TestCase):
 
     def test_a_history_at_all_times(self):
-        for history, model in some_histories()[::12]:
+        for history, model in some_histories()[::13]:
             stood = Live(())
             for step in history:
                 getattr(stood, step[0])(*step[1:])
@@ -228,7 +232,7 @@ class J1(unittest.TestCase):
 class J2(unittest.TestCase):
 
     def test_covers_and_newest(self):
-        for history, _ in some_histories()[::8]:
+        for history, _ in some_histories()[::9]:
             stood = Live(history)
             table = dict(futures.cover_table(history))
             for size in (1, 2, 3):
