@@ -169,11 +169,11 @@ class A5(unittest.TestCase):
         answers = {True: 0, False: 0}
         for history, _ in some_histories():
             there = marks(history)
+            told = {mark: (set(heard(history, mark)), stamp_of(history, mark)[1]) for mark in there}
             for one in there:
                 for other in there:
-                    contained = set(heard(history, one)) <= set(heard(history, other))
-                    within = is_within(stamp_of(history, one)[1], stamp_of(history, other)[1])
-                    self.assertIs(within, contained)
+                    contained = told[one][0] <= told[other][0]
+                    self.assertIs(is_within(told[one][1], told[other][1]), contained)
                     answers[contained] += one != other
         self.assertGreater(min(answers.values()), 100)
 

@@ -220,10 +220,11 @@ class D4(unittest.TestCase):
     def test_each_join_makes_less(self):
         def total(history):
             return sum(tuples_in(stamp_of(history, mark)[0]) for mark in marks(history))
-        for history, _ in some_histories()[::2]:
+        for history, _ in some_histories()[::5]:
+            ahead = total(history)
             for one, other in permutations(marks(history), 2):
                 if len(history) < 60:
-                    self.assertLess(total(history + (("join", one, other),)), total(history))
+                    self.assertLess(total(history + (("join", one, other),)), ahead)
 
     def test_by_united(self):
         for history, model in some_histories()[::5]:
