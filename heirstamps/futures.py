@@ -66,7 +66,7 @@ def cover_sign(hearing):
     return (hearing.next_mark, tuple(sorted(hearing.heard_by)), tuple(covered))
 
 
-def first_unlike(hearing, other_hearing):
+def _first_unlike(hearing, other_hearing):
     """The tuple (lot, mark) of a lot that covers the copy behind just one of two even histories; None for none."""
     masks = heard_masks(hearing)
     other_masks = heard_masks(other_hearing)
@@ -81,7 +81,7 @@ def are_alike(history, other_history):
     """Whether the two histories are alike for every future."""
     standing = standing_behind(history)
     other_standing = standing_behind(other_history)
-    return are_even(standing, other_standing) and first_unlike(standing, other_standing) is None
+    return are_even(standing, other_standing) and _first_unlike(standing, other_standing) is None
 
 
 def _even_standings(history, other_history):
@@ -96,7 +96,7 @@ def _even_standings(history, other_history):
 def parting(history, other_history):
     """Hear steps and two marks, behind which a look parts the two histories; None if they are alike."""
     standing, other_standing = _even_standings(history, other_history)
-    unlike = first_unlike(standing, other_standing)
+    unlike = _first_unlike(standing, other_standing)
     if unlike is None:
         return None
     # Each copy of the lot that another one hears adds to this what it has heard, so this comes to cover the mark.

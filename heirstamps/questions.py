@@ -7,14 +7,14 @@ from heirstamps.paper_texts import history_text, paper_text
 from heirstamps.shares import share_text
 
 
-def spaced(values):
+def _spaced(values):
     """The texts of values, with blanks between."""
     return " ".join([str(value) for value in values])
 
 
 def step_command(step):
     """The command of a step."""
-    return spaced(list(step))
+    return _spaced(list(step))
 
 
 def journal_of(live, name):
@@ -37,7 +37,7 @@ def _stamp(live, mark):
 
 def _standings(live):
     """The numbers of steps behind which all is alike for every future."""
-    return spaced(["=".join([str(number) for number in numbers]) for numbers in live.standings()])
+    return _spaced(["=".join([str(number) for number in numbers]) for numbers in live.standings()])
 
 
 def _paper(live, mark):
@@ -50,11 +50,11 @@ def answer_about(live, word, numbers):
     if word == "show":
         return history_text(live.history)
     if word == "marks":
-        return spaced(live.marks)
+        return _spaced(live.marks)
     if word == "newest":
-        return spaced(live.newest())
+        return _spaced(live.newest())
     if word == "heard":
-        return spaced(live.heard(numbers[0]))
+        return _spaced(live.heard(numbers[0]))
     if word == "stamp":
         return _stamp(live, numbers[0])
     if word == "covers":
@@ -62,5 +62,5 @@ def answer_about(live, word, numbers):
     if word == "standings":
         return _standings(live)
     if word == "where":
-        return spaced([len(live.marks), len(live.history), live.depth])
+        return _spaced([len(live.marks), len(live.history), live.depth])
     return _paper(live, numbers[0])
